@@ -17,6 +17,8 @@ LIBRARY = {
     "heapq": {"heappush", "heappop", "heapify", "heapreplace", "heappushpop"},
     "itertools": {"product", "combinations", "permutations"},
 }
+# Where examples were run ahead, Python itself has put a "_" among them.
+BUILTIN_NAMES = set(dir(builtins)) - {"_"}
 ALLOWED_BUILTINS = set("""
     len range enumerate zip min max sum abs sorted reversed int str bool list tuple dict set isinstance ord repr any
     all divmod Exception ValueError TypeError KeyError IndexError LookupError ZeroDivisionError ArithmeticError
@@ -200,7 +202,7 @@ def check_files(package, code):
     if not re.match(r"^[A-Za-z0-9_]+\.py$", name):
         package.wrong("L1", code, 1, "the name of the file")
     stem = name[:-3]
-    if name != name.lower() or stem in FILE_WORDS or stem.startswith(("law_", "test_")) or stem in dir(builtins):
+    if name != name.lower() or stem in FILE_WORDS or stem.startswith(("law_", "test_")) or stem in BUILTIN_NAMES:
         package.wrong("L14", code, 1, "the name of the file")
     if stem in NEVER or stem in NEVER_WORDS:
         package.wrong("L14", code, 1, "the name of the file")
@@ -517,11 +519,11 @@ def check_bound_names(package, code):
         if isinstance(node, ast.alias):
             continue
         if isinstance(node, (ast.FunctionDef, ast.ClassDef)) and code.parents[node] is code.tree:
-            if hasattr(builtins, name):
+            if name in BUILTIN_NAMES:
                 package.wrong("L15", code, line_of(node), "the name of a builtin: " + name)
             continue
         is_method = isinstance(node, ast.FunctionDef) and isinstance(code.parents[node], ast.ClassDef)
-        if hasattr(builtins, name) and not is_method:
+        if name in BUILTIN_NAMES and not is_method:
             package.wrong("L15", code, line_of(node), "the name of a builtin: " + name)
         if name in taken and not is_method:
             package.wrong("L15", code, line_of(node), "the name of a class or an import: " + name)

@@ -1,0 +1,230 @@
+"""Points [1] to [3]: what holds for every function of every module."""
+
+import copy
+import itertools
+import unittest
+
+from helpers import (
+    FORM, all_nodes, every_truth, is_package_object, names, random_book, random_chart, random_maker, random_sheets, same, seeded, subsets,
+)
+from test_charts import A, B, C, D
+from whyblank import books, charts, charttext, closedlots, forms, fractions, makers, sheets, summing, tallies, ways, weights
+from whyblank.books import Book
+from whyblank.charts import Chart
+from whyblank.forms import Form
+from whyblank.kinds import is_int, is_name, is_number
+from whyblank.makers import Maker
+from whyblank.sheets import Sheets
+from whyblank.tallies import Tally
+
+RANDOM = seeded(80)
+CHART = Chart(FORM, ((A, B), (A, D)), ((B, D),))
+MAKER = random_maker(RANDOM, CHART)
+BOOK = random_book(RANDOM, FORM)
+TABLE = random_sheets(RANDOM, FORM)
+TALLY = Tally(FORM, ((3, 0, ((), (0, 0))),))
+OTHER = Tally(FORM, ((3, 0, ((0, 0),)), (4, 1, ((1, -1),))))
+FACTOR = summing.factors_of(MAKER)[1]
+WAY = (("arrow", A, D), ("bow", B, D))
+BOW = (B, D)
+
+CALLS = [
+    (fractions.need_fraction, {"value": (1, 2)}), (fractions.is_fraction, {"value": (1, 2)}), (fractions.fraction, {"top": 2, "bottom": 4}),
+    (fractions.whole, {"number": 2}), (fractions.plus, {"one": (1, 2), "other": (1, 3)}), (fractions.minus, {"one": (1, 2), "other": (1, 3)}),
+    (fractions.times, {"one": (1, 2), "other": (1, 3)}), (fractions.over, {"one": (1, 2), "other": (1, 3)}),
+    (fractions.compared, {"one": (1, 2), "other": (1, 3)}), (fractions.sign_of, {"one": (1, 2)}),
+    (fractions.total_of, {"some": [(1, 2), (1, 3)]}), (fractions.product_all, {"some": [(1, 2), (1, 3)]}),
+    (fractions.least_of, {"some": [(1, 2), (1, 3)]}), (fractions.greatest_of, {"some": [(1, 2), (1, 3)]}),
+    (fractions.fraction_text, {"one": (1, 2)}), (fractions.read_fraction, {"value": "1/2"}),
+    (forms.need_form, {"value": FORM}), (forms.is_form, {"value": FORM}), (forms.names_of, {"form": FORM}),
+    (forms.place_of, {"form": FORM, "name": "earns"}), (forms.answers_of, {"form": FORM, "name": "earns"}),
+    (forms.is_truth, {"form": FORM, "value": (0, 0)}), (forms.is_sheet, {"form": FORM, "value": (0, -1)}),
+    (forms.is_lot, {"form": FORM, "value": ("debts",)}), (forms.truths, {"form": FORM}), (forms.all_sheets, {"form": FORM}),
+    (forms.lots_within, {"lot": ("a", "b")}), (forms.lots, {"form": FORM}), (forms.without_names, {"lot": ("a", "b"), "names": ("a",)}),
+    (forms.sheet_of, {"form": FORM, "lot": ("debts",), "truth": (0, 1)}), (forms.lot_of, {"form": FORM, "sheet": (-1, 1)}),
+    (forms.truths_behind, {"form": FORM, "sheet": (-1, 1)}),
+    (books.need_book, {"value": BOOK}), (books.is_book, {"value": BOOK}),
+    (books.gathered_book, {"form": FORM, "shares": list(BOOK.shares)}), (books.share_of, {"book": BOOK, "lot": (), "truth": (0, 1)}),
+    (books.part, {"book": BOOK, "lot": ("debts",)}), (books.lots_in, {"book": BOOK}), (books.lot_shares, {"book": BOOK}),
+    (books.truth_shares, {"book": BOOK}), (books.mixed_book, {"one": BOOK, "other": makers.book_made(MAKER), "level": (1, 3)}),
+    (sheets.need_sheets, {"value": TABLE}), (sheets.is_sheets, {"value": TABLE}),
+    (sheets.gathered_sheets, {"form": FORM, "shares": list(TABLE.shares)}), (sheets.sheet_share, {"sheets": TABLE, "sheet": (0, -1)}),
+    (sheets.sheets_of, {"book": BOOK}), (sheets.blank_share, {"sheets": TABLE, "name": "debts"}),
+    (sheets.struck_book, {"book": BOOK, "name": "debts"}), (sheets.struck_sheets, {"sheets": TABLE, "name": "debts"}),
+    (charts.nodes_of, {"form": FORM}), (charts.need_chart, {"value": CHART}), (charts.is_chart, {"value": CHART}),
+    (charts.parents, {"chart": CHART, "node": D}), (charts.children, {"chart": CHART, "node": A}),
+    (charts.partners, {"chart": CHART, "node": D}), (charts.led_from, {"chart": CHART, "nodes": [A, C]}),
+    (charts.led_to, {"chart": CHART, "nodes": [D, C]}), (charts.order_of, {"chart": CHART}),
+    (charts.order_or_ring, {"form": FORM, "arrows": ((A, B), (B, A))}),
+    (charts.check_order_or_ring, {"form": FORM, "arrows": ((A, B), (B, A)), "value": ("ring", (A, B))}),
+    (charts.with_arrow, {"chart": CHART, "start": A, "end": C}), (charts.with_bow, {"chart": CHART, "one": C, "other": A}),
+    (charts.chart_part, {"chart": CHART, "names": ["earns"]}), (charts.groups_of, {"chart": CHART}),
+    (charttext.chart_text, {"chart": CHART}), (charttext.read_chart, {"value": "a 2\na > ?a"}),
+    (ways.stretches_of, {"chart": CHART}), (ways.without, {"chart": CHART, "stretches": [("bow", B, D)]}),
+    (ways.stops_of, {"way": WAY, "one": A}), (ways.need_way, {"chart": CHART, "one": A, "other": B, "value": WAY}),
+    (ways.is_way, {"chart": CHART, "one": A, "other": B, "value": WAY}), (ways.turned_way, {"way": WAY}),
+    (ways.ways_between, {"chart": CHART, "one": A, "other": B}), (ways.way_between, {"chart": CHART, "one": A, "other": B}),
+    (ways.way_of, {"chart": CHART, "name": "earns"}), (ways.own_ways, {"chart": CHART}), (ways.joined_pairs, {"chart": CHART}),
+    (closedlots.is_closed, {"chart": CHART, "one": A, "other": C, "value": (B, D)}),
+    (closedlots.closed_between, {"chart": CHART, "one": A, "other": C}), (closedlots.closed_lot, {"chart": CHART, "name": "debts"}),
+    (closedlots.check_closed, {"chart": CHART, "name": "debts", "value": (B, D)}),
+    (makers.values_of, {"form": FORM, "node": A}), (makers.feeders, {"chart": CHART, "node": D}),
+    (makers.choices, {"chart": CHART, "coins": MAKER.coins, "node": D}), (makers.need_maker, {"value": MAKER}),
+    (makers.is_maker, {"value": MAKER}), (makers.even_maker, {"chart": CHART}), (makers.is_sure, {"maker": MAKER}),
+    (makers.share_made, {"maker": MAKER, "lot": ("debts",), "truth": (0, 1)}), (makers.book_made, {"maker": MAKER}),
+    (makers.person_made, {"maker": MAKER, "draws": [7, 11, 13, 17, 19]}), (makers.free_given_rest, {"book": BOOK, "one": A, "other": D}),
+    (makers.maker_for, {"chart": Chart(FORM, CHART.arrows, ()), "book": BOOK}),
+    (summing.margin, {"book": BOOK, "nodes": (A, D)}), (summing.factors_of, {"maker": MAKER}),
+    (summing.product_of, {"one": FACTOR, "other": summing.factors_of(MAKER)[2]}),
+    (summing.summed_out, {"factor": FACTOR, "thing": FACTOR.things[0]}),
+    (summing.summed, {"maker": MAKER, "nodes": (A, D), "order": (B, BOW, C)}), (summing.needed, {"chart": CHART, "nodes": (D,)}),
+    (summing.summed_needed, {"maker": MAKER, "nodes": (A, D)}),
+    (tallies.need_letter, {"form": FORM, "value": (0, 0, ())}), (tallies.need_tally, {"value": TALLY}), (tallies.is_tally, {"value": TALLY}),
+    (tallies.tally_of, {"form": FORM, "letters": [(0, 1, (0, 0)), (0, 1, ())]}), (tallies.heard, {"tally": TALLY, "letter": (3, 0, (1, 1))}),
+    (tallies.merged, {"one": TALLY, "other": OTHER}), (tallies.missing_letters, {"one": TALLY, "other": OTHER}),
+    (weights.lots_that_come, {"sheets": TABLE}), (weights.truths_that_come, {"sheets": TABLE}), (weights.is_every, {"sheets": TABLE}),
+    (weights.why_not_grown, {"sheets": TABLE}), (weights.weight, {"sheets": TABLE, "sheet": (-1, -1)}), (weights.weights, {"sheets": TABLE}),
+    (weights.check_weights, {"sheets": TABLE, "value": weights.weights(TABLE)}), (weights.behind, {"sheets": TABLE, "sheet": (-1, 0)}),
+    (weights.stretch, {"sheets": TABLE, "truth": (0, 1)}),
+]
+
+
+def holds_a_list(value):
+    """Whether a list, or a bool that stands for a number, is in what a function returned."""
+    if isinstance(value, (list, dict, set)):
+        return True
+    if isinstance(value, tuple):
+        return any(holds_a_list(one) for one in value)
+    return is_package_object(value) and any(holds_a_list(one) for one in vars(value).values())
+
+
+class Everywhere(unittest.TestCase):
+    def test_by_position_and_by_names(self):
+        for call, arguments in CALLS:
+            with self.subTest(call=call.__name__):
+                kept = copy.deepcopy(arguments)
+                first = call(**arguments)
+                self.assertTrue(same(first, call(*arguments.values())))
+                turned = dict(reversed(list(arguments.items())))
+                self.assertTrue(same(first, call(**turned)))
+                self.assertTrue(same(arguments, kept))
+
+    def test_lists_as_tuples(self):
+        for call, arguments in CALLS:
+            if any(isinstance(one, list) for one in arguments.values()):
+                with self.subTest(call=call.__name__):
+                    as_tuples = {name: tuple(one) if isinstance(one, list) else one for name, one in arguments.items()}
+                    self.assertTrue(same(call(**arguments), call(**as_tuples)))
+
+    def test_what_is_returned_is_tuples_also_within(self):
+        for call, arguments in CALLS:
+            with self.subTest(call=call.__name__):
+                self.assertFalse(holds_a_list(call(**arguments)))
+
+    def test_need_returns_none_and_is_tells_whether(self):
+        for call, arguments in CALLS:
+            if call.__name__.startswith("need_"):
+                self.assertIsNone(call(**arguments))
+            if call.__name__.startswith(("is_", "check_", "free_")):
+                self.assertIn(call(**arguments).__class__, (bool,))
+
+    def test_the_same_whatever_was_called_in_between(self):
+        first = [call(**arguments) for call, arguments in CALLS]
+        order = list(range(len(CALLS)))
+        RANDOM.shuffle(order)
+        for at in order:
+            call, arguments = CALLS[at]
+            self.assertTrue(same(first[at], call(**arguments)))
+
+    def test_later_changes_to_an_argument_have_no_effect(self):
+        for call, arguments in CALLS:
+            if any(isinstance(one, list) for one in arguments.values()):
+                mine = {name: list(one) if isinstance(one, list) else one for name, one in arguments.items()}
+                found = call(**mine)
+                for one in mine.values():
+                    if isinstance(one, list):
+                        one.clear()
+                self.assertTrue(same(found, call(**arguments)))
+
+    def test_every_function_is_called_here(self):
+        from test_interface import FUNCTIONS, split
+        wanted = {split(one)[0] for told in FUNCTIONS.values() for one in told.split()}
+        self.assertEqual({call.__name__ for call, _ in CALLS}, wanted)
+
+    def test_equal_arguments_of_another_making(self):
+        """Forms, charts and the like that are equal, but not the same objects, lead to equal results."""
+        for call, arguments in CALLS:
+            self.assertTrue(same(call(**arguments), call(**copy.deepcopy(arguments))))
+
+
+class Kinds(unittest.TestCase):
+    def test_integers_and_numbers(self):
+        for value in (0, 1, -1, 10 ** 4000):
+            self.assertIs(is_int(value), True)
+            self.assertIs(is_number(value), value >= 0)
+        for value in (True, False, None, "1", (1,), [1], FORM, 1.0):
+            self.assertIs(is_int(value), False)
+            self.assertIs(is_number(value), False)
+
+    def test_names(self):
+        for value in ("a", "z", "abcdefgh", "debts"):
+            self.assertIs(is_name(value), True)
+        for value in ("", "abcdefghi", "A", "a1", "a b", "\u00e4", "\u00df", "a\n", None, 1, ("a",), ["a"], FORM):
+            self.assertIs(is_name(value), False)
+
+    def test_names_are_of_these_letters_alone(self):
+        for code in itertools.chain(range(0x300), range(0x370, 0x400), range(0x2100, 0x2200), range(0xff00, 0xff70)):
+            letter = chr(code)
+            self.assertIs(is_name(letter), letter in "abcdefghijklmnopqrstuvwxyz")
+            self.assertIs(is_name("a" + letter), letter in "abcdefghijklmnopqrstuvwxyz")
+
+    def test_no_length_and_nothing_to_iterate(self):
+        for one in (FORM, BOOK, TABLE, CHART, MAKER, FACTOR, TALLY):
+            for call in (len, iter, list):
+                with self.assertRaises(TypeError):
+                    call(one)
+
+    def test_equal_to_nothing_of_another_class(self):
+        things = [Form(None), Book(None, None), Sheets(None, None), Chart(None, None, None), Maker(None, None, None), FACTOR, TALLY]
+        for one, other in itertools.permutations(things, 2):
+            self.assertFalse(one == other)
+            self.assertTrue(one != other)
+
+
+class Limits(unittest.TestCase):
+    def test_the_greatest_forms(self):
+        form = Form((("a", 4), ("b", 4), ("c", 3), ("d", 2)))
+        random = seeded(81)
+        chart = random_chart(random, form, 10, 2)
+        maker = random_maker(random, chart, False, 6)
+        book = makers.book_made(maker)
+        self.assertIs(books.is_book(book), True)
+        table = sheets.sheets_of(book)
+        self.assertIs(weights.check_weights(table, weights.weights(table)), True)
+        nodes = all_nodes(form)
+        self.assertEqual(summing.summed_needed(maker, tuple(nodes[:3])), summing.margin(book, tuple(nodes[:3])))
+        self.assertEqual(len(every_truth(form)), 96)
+        self.assertEqual(len(subsets(names(form))), 16)
+
+    def test_long_fractions(self):
+        """Shares of sixty figures in tables of sheets, and the long weights that come of them."""
+        form = Form((("a", 3), ("b", 3), ("c", 2)))
+        random = seeded(82)
+        parts = [random.randrange(1, 10 ** 57) for _ in forms.all_sheets(form)]
+        shares = [(sheet, fractions.fraction(one, sum(parts))) for sheet, one in zip(forms.all_sheets(form), parts)]
+        table = sheets.gathered_sheets(form, shares)
+        found = weights.weights(table)
+        self.assertIs(weights.check_weights(table, found), True)
+        for _, one in found:
+            self.assertEqual(fractions.read_fraction(fractions.fraction_text(one)), one)
+
+    def test_two_thousand_long_fractions(self):
+        random = seeded(83)
+        some = [fractions.fraction(random.randrange(10 ** 60), random.randrange(1, 10 ** 60)) for _ in range(2000)]
+        self.assertEqual(fractions.compared(fractions.greatest_of(some), fractions.least_of(some)), 1)
+        self.assertEqual(fractions.sign_of(fractions.total_of(some)), 1)
+        self.assertEqual(fractions.sign_of(fractions.product_all(some)), 1)
+
+
+if __name__ == "__main__":
+    unittest.main()

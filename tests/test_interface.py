@@ -1,0 +1,125 @@
+"""The interface at the end of DOC.md: names, arguments, and which file defines what."""
+
+import importlib
+import inspect
+import unittest
+
+FUNCTIONS = {
+    "fractions": """
+        need_fraction(value) is_fraction(value) fraction(top,bottom) whole(number) plus(one,other) minus(one,other)
+        times(one,other) over(one,other) compared(one,other) sign_of(one) total_of(some) product_all(some) least_of(some)
+        greatest_of(some) fraction_text(one) read_fraction(value)
+    """,
+    "forms": """
+        need_form(value) is_form(value) names_of(form) place_of(form,name) answers_of(form,name) is_truth(form,value)
+        is_sheet(form,value) is_lot(form,value) truths(form) all_sheets(form) lots_within(lot) lots(form)
+        without_names(lot,names) sheet_of(form,lot,truth) lot_of(form,sheet) truths_behind(form,sheet)
+    """,
+    "books": """
+        need_book(value) is_book(value) gathered_book(form,shares) share_of(book,lot,truth) part(book,lot) lots_in(book)
+        lot_shares(book) truth_shares(book) mixed_book(one,other,level)
+    """,
+    "sheets": """
+        need_sheets(value) is_sheets(value) gathered_sheets(form,shares) sheet_share(sheets,sheet) sheets_of(book)
+        blank_share(sheets,name) struck_book(book,name) struck_sheets(sheets,name)
+    """,
+    "charts": """
+        nodes_of(form) need_chart(value) is_chart(value) parents(chart,node) children(chart,node) partners(chart,node)
+        led_from(chart,nodes) led_to(chart,nodes) order_of(chart) order_or_ring(form,arrows)
+        check_order_or_ring(form,arrows,value) with_arrow(chart,start,end) with_bow(chart,one,other)
+        chart_part(chart,names) groups_of(chart)
+    """,
+    "charttext": "chart_text(chart) read_chart(value)",
+    "ways": """
+        stretches_of(chart) without(chart,stretches) stops_of(way,one) need_way(chart,one,other,value)
+        is_way(chart,one,other,value) turned_way(way) ways_between(chart,one,other) way_between(chart,one,other)
+        way_of(chart,name) own_ways(chart) joined_pairs(chart)
+    """,
+    "closedlots": """
+        is_closed(chart,one,other,value) closed_between(chart,one,other) closed_lot(chart,name)
+        check_closed(chart,name,value)
+    """,
+    "makers": """
+        values_of(form,node) feeders(chart,node) choices(chart,coins,node) need_maker(value) is_maker(value)
+        even_maker(chart) is_sure(maker) share_made(maker,lot,truth) book_made(maker) person_made(maker,draws)
+        free_given_rest(book,one,other) maker_for(chart,book)
+    """,
+    "summing": """
+        margin(book,nodes) factors_of(maker) product_of(one,other) summed_out(factor,thing) summed(maker,nodes,order)
+        needed(chart,nodes) summed_needed(maker,nodes)
+    """,
+    "tallies": """
+        need_letter(form,value) need_tally(value) is_tally(value) tally_of(form,letters) heard(tally,letter)
+        merged(one,other) missing_letters(one,other)
+    """,
+    "weights": """
+        lots_that_come(sheets) truths_that_come(sheets) is_every(sheets) why_not_grown(sheets) weight(sheets,sheet)
+        weights(sheets) check_weights(sheets,value) behind(sheets,sheet) stretch(sheets,truth)
+    """,
+}
+CLASSES = {
+    "forms": "Form(questions)",
+    "books": "Book(form,shares)",
+    "sheets": "Sheets(form,shares)",
+    "charts": "Chart(form,arrows,bows)",
+    "makers": "Maker(chart,coins,tables)",
+    "summing": "Factor(things,sizes,shares)",
+    "tallies": "Tally(form,rows)",
+}
+ERRORS = """
+    InvalidFraction(at) InvalidForm(at) InvalidBook(at) InvalidSheets(at) InvalidChart(at) InvalidMaker(at) InvalidWay(at)
+    InvalidAsk(at) InvalidText(at) InvalidSize(word) InvalidCommand() Refused(word) NoName(name)
+"""
+
+
+def split(told):
+    """The name and the parameters of what is told as name(first,second)."""
+    name, _, rest = told.partition("(")
+    return name, [one for one in rest.rstrip(")").split(",") if one]
+
+
+class Interface(unittest.TestCase):
+    def parameters(self, call, wanted):
+        found = list(inspect.signature(call).parameters.values())
+        self.assertEqual([one.name for one in found], wanted, call)
+        for one in found:
+            self.assertIs(one.kind, inspect.Parameter.POSITIONAL_OR_KEYWORD)
+            self.assertIs(one.default, inspect.Parameter.empty)
+
+    def test_functions(self):
+        for file, told in FUNCTIONS.items():
+            module = importlib.import_module("whyblank." + file)
+            for one in told.split():
+                name, wanted = split(one)
+                call = getattr(module, name)
+                self.assertTrue(inspect.isfunction(call), name)
+                self.assertEqual((call.__module__, call.__name__), ("whyblank." + file, name))
+                self.parameters(call, wanted)
+
+    def test_classes(self):
+        for file, told in CLASSES.items():
+            name, wanted = split(told)
+            made = getattr(importlib.import_module("whyblank." + file), name)
+            self.assertTrue(inspect.isclass(made))
+            self.assertEqual((made.__module__, made.__name__, made.__bases__), ("whyblank." + file, name, (object,)))
+            self.parameters(made, wanted)
+            self.assertIn("__eq__", vars(made))
+            self.assertIn("__init__", vars(made))
+            self.assertEqual(sorted(vars(made(*wanted))), sorted(wanted))
+
+    def test_errors(self):
+        module = importlib.import_module("whyblank.errors")
+        for told in ERRORS.split():
+            name, wanted = split(told)
+            made = getattr(module, name)
+            self.assertEqual((made.__module__, made.__name__), ("whyblank.errors", name))
+            self.parameters(made, wanted)
+            self.assertEqual(sorted(vars(made(*wanted))), sorted(wanted))
+
+    def test_constants(self):
+        module = importlib.import_module("whyblank.fractions")
+        self.assertEqual((module.ZERO, module.ONE, module.HALF), ((0, 1), (1, 1), (1, 2)))
+
+
+if __name__ == "__main__":
+    unittest.main()
