@@ -36,26 +36,20 @@ def goes_back(start, end):
     return start[0] == "b" and end[0] == "a"
 
 
-def arrow_fault(form, arrows):
-    """The number of the first arrow of a chart that is wrong, None if none is."""
-    for at, arrow in enumerate(arrows):
-        if not are_unlike_nodes(form, arrow) or goes_back(arrow[0], arrow[1]):
-            return at
-        if at > 0 and arrow <= arrows[at - 1]:
-            return at
-        if arrow[0] in reached((arrow[1],), arrows[:at]):
-            return at
-    return None
+def may_follow_arrows(form, ahead, value):
+    """Whether any value is an arrow that may stand in a chart behind these arrows."""
+    if not are_unlike_nodes(form, value) or goes_back(value[0], value[1]):
+        return False
+    if len(ahead) > 0 and value <= ahead[-1]:
+        return False
+    return value[0] not in reached((value[1],), ahead)
 
 
-def bow_fault(form, bows):
-    """The number of the first bow of a chart that is wrong, None if none is."""
-    for at, bow in enumerate(bows):
-        if not are_unlike_nodes(form, bow) or bow[0] > bow[1]:
-            return at
-        if at > 0 and bow <= bows[at - 1]:
-            return at
-    return None
+def may_follow_bows(form, ahead, value):
+    """Whether any value is a bow that may stand in a chart behind these bows."""
+    if not are_unlike_nodes(form, value) or value[0] > value[1]:
+        return False
+    return len(ahead) == 0 or value > ahead[-1]
 
 
 def chart_fault(value):
@@ -64,12 +58,12 @@ def chart_fault(value):
         return -1
     if not isinstance(value.arrows, tuple) or not isinstance(value.bows, tuple):
         return -1
-    wrong_arrow = arrow_fault(value.form, value.arrows)
-    if wrong_arrow is not None:
-        return (0, wrong_arrow)
-    wrong_bow = bow_fault(value.form, value.bows)
-    if wrong_bow is not None:
-        return (1, wrong_bow)
+    for at, arrow in enumerate(value.arrows):
+        if not may_follow_arrows(value.form, value.arrows[:at], arrow):
+            return (0, at)
+    for at, bow in enumerate(value.bows):
+        if not may_follow_bows(value.form, value.bows[:at], bow):
+            return (1, at)
     return None
 
 

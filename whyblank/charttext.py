@@ -1,8 +1,8 @@
 """The text of a chart, there and back."""
 
-from whyblank.charts import Chart, is_chart
+from whyblank.charts import Chart, may_follow_arrows, may_follow_bows
 from whyblank.errors import InvalidText
-from whyblank.forms import Form
+from whyblank.forms import MOST_QUESTIONS, Form, may_follow
 
 NUMERALS = ("2", "3", "4", "5", "6", "7", "8", "9")
 
@@ -28,24 +28,31 @@ def read_chart(value):
     chart = Chart(Form(()), (), ())
     for at, line in enumerate(value.split("\n")):
         chart = with_line(chart, line)
-        if not is_chart(chart):
+        if chart is None:
             raise InvalidText(at)
     return chart
 
 
 def with_line(chart, line):
-    """The chart with what one line more tells, which may be none; None for a line of another kind."""
-    form, words = chart.form, line.split(" ")
+    """The chart with what one line more tells, None if no chart's text goes on with it."""
+    words = line.split(" ")
     if len(words) == 2 and words[1] in NUMERALS and not chart.arrows and not chart.bows:
-        return Chart(Form(form.questions + ((words[0], int(words[1])),)), (), ())
+        return with_question(chart.form.questions, (words[0], int(words[1])))
     if len(words) != 3:
         return None
     pair = (node_with(words[0]), node_with(words[2]))
-    if words[1] == ">" and not chart.bows:
-        return Chart(form, chart.arrows + (pair,), ())
-    if words[1] == "~":
-        return Chart(form, chart.arrows, chart.bows + (pair,))
+    if words[1] == ">" and not chart.bows and may_follow_arrows(chart.form, chart.arrows, pair):
+        return Chart(chart.form, chart.arrows + (pair,), ())
+    if words[1] == "~" and may_follow_bows(chart.form, chart.bows, pair):
+        return Chart(chart.form, chart.arrows, chart.bows + (pair,))
     return None
+
+
+def with_question(questions, question):
+    """The chart of these questions and one more, None if it may not stand behind them."""
+    if len(questions) == MOST_QUESTIONS or not may_follow(questions, question):
+        return None
+    return Chart(Form(questions + (question,)), (), ())
 
 
 def node_with(word):

@@ -3,6 +3,8 @@
 from whyblank.errors import InvalidForm, NoName
 from whyblank.kinds import is_int, is_name, is_part_of, is_tuple_of, tuples_over
 
+MOST_QUESTIONS = 8
+
 
 class Form:
     """Questions: pairs (name, how many answers)."""
@@ -14,22 +16,22 @@ class Form:
         return isinstance(other, Form) and self.questions == other.questions
 
 
-def is_question(value):
-    """Whether any value is a pair of a name and an integer from 2 to 9."""
-    return is_tuple_of(value, 2) and is_name(value[0]) and is_int(value[1]) and 2 <= value[1] <= 9
+def may_follow(ahead, value):
+    """Whether any value is a question that may stand behind these questions."""
+    if not is_tuple_of(value, 2) or not is_name(value[0]) or not is_int(value[1]) or not 2 <= value[1] <= 9:
+        return False
+    return len(ahead) == 0 or value[0] > ahead[-1][0]
 
 
 def form_fault(value):
     """What is wrong with any value as a form, as `need_form` tells it; None if nothing is."""
     if not isinstance(value, Form) or not isinstance(value.questions, tuple):
         return -1
-    if not 1 <= len(value.questions) <= 8:
+    if not 1 <= len(value.questions) <= MOST_QUESTIONS:
         return -1
-    ahead = ""
     for at, question in enumerate(value.questions):
-        if not is_question(question) or question[0] <= ahead:
+        if not may_follow(value.questions[:at], question):
             return at
-        ahead = question[0]
     return None
 
 

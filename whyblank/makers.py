@@ -251,7 +251,8 @@ def free_given_rest(book, one, other):
     for lot, truth, share in book.shares:
         values = values_shown(book.form, lot, truth)
         rest = tuple([value for place, value in enumerate(values) if place != first and place != second])
-        tables.setdefault(rest, {})[(values[first], values[second])] = share
+        table = tables.setdefault(rest, {})
+        table[(values[first], values[second])] = share
     many, others = values_of(book.form, one), values_of(book.form, other)
     return all([are_in_measure(table, many, others) for table in tables.values()])
 
