@@ -9,7 +9,7 @@ from helpers import HUGE, any_values, deep, frac, mutants, pair_of, same, seeded
 from whyblank.errors import InvalidFraction, InvalidSize, InvalidText
 from whyblank.fractions import (
     HALF, ONE, ZERO, compared, fraction, fraction_text, greatest_of, is_fraction, least_of, minus, need_fraction, over,
-    plus, product_all, read_fraction, sign_of, times, total_of, whole,
+    plus, product_all, read_fraction, same_product, sign_of, times, total_of, whole,
 )
 
 SIXTY = 10 ** 60 - 1
@@ -88,6 +88,14 @@ class Sums(Case):
         self.assertEqual(minus(other=(1, 3), one=(1, 2)), (1, 6))
         self.assertEqual(over(other=(1, 3), one=(1, 2)), (3, 2))
 
+    def test_same_product(self):
+        random = seeded(84)
+        for _ in range(300):
+            some = [random.choice(SOME[:8]) for _ in range(4)]
+            worths = [frac(one) for one in some]
+            self.assertIs(same_product(*some), worths[0] * worths[1] == worths[2] * worths[3])
+        self.assertIs(same_product((1, 2), (2, 3), (1, 6), (2, 1)), True)
+
     def test_results_of_comparing_are_integers(self):
         for one in SOME:
             for told in [sign_of(one)] + [compared(one, other) for other in SOME]:
@@ -157,6 +165,8 @@ class Texts(Case):
         text = "1" + "0" * 4499 + "1/1" + "0" * 4400
         self.assertEqual(fraction_text(one), text)
         self.assertEqual(read_fraction(text), one)
+        self.assertEqual(fraction_text((-one[0], one[1])), "-" + text)
+        self.assertEqual(read_fraction("-" + text), (-one[0], one[1]))
 
     def test_no_string(self):
         for value in any_values():

@@ -99,12 +99,12 @@ def turned(pairs):
 
 def parents(chart, node):
     """The nodes from which an arrow goes to a node, ascending."""
-    return tuple(sorted([start for start, end in chart.arrows if end == node]))
+    return tuple([start for start, end in chart.arrows if end == node])
 
 
 def children(chart, node):
     """The nodes to which an arrow goes from a node, ascending."""
-    return tuple(sorted([end for start, end in chart.arrows if start == node]))
+    return tuple([end for start, end in chart.arrows if start == node])
 
 
 def partners(chart, node):

@@ -82,6 +82,12 @@ def sign_of(one):
     return compared(one, ZERO)
 
 
+def same_product(one, other, third, fourth):
+    """Whether the product of two fractions is that of two others."""
+    # Multiplied across, long fractions need not be reduced.
+    return one[0] * other[0] * third[1] * fourth[1] == third[0] * fourth[0] * one[1] * other[1]
+
+
 def total_of(some):
     """The sum of a sequence of fractions."""
     # With one bottom for all, the sum is reduced once; reduced at each step, long sums take minutes.

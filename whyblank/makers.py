@@ -6,7 +6,8 @@ from whyblank.books import gathered_book
 from whyblank.charts import is_chart, nodes_of, order_of, parents
 from whyblank.errors import InvalidMaker, InvalidSize
 from whyblank.forms import answers_of, names_of
-from whyblank.fractions import HALF, ONE, ZERO, fraction, is_fraction, over, product_all, sign_of, times, total_of
+from whyblank.fractions import HALF, ONE, ZERO, fraction, is_fraction, over, product_all, same_product, sign_of
+from whyblank.fractions import times, total_of
 from whyblank.kinds import is_tuple_of, tuples_over
 
 
@@ -264,7 +265,7 @@ def are_in_measure(table, many, others):
     for at, row in enumerate(rows):
         for after in rows[at + 1:]:
             for low, high in corners:
-                if times(row[low], after[high]) != times(row[high], after[low]):
+                if not same_product(row[low], after[high], row[high], after[low]):
                     return False
     return True
 

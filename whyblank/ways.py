@@ -8,7 +8,7 @@ from whyblank.forms import names_of, place_of
 def stretches_of(chart):
     """All stretches of a chart, ascending."""
     arrows = [("arrow", start, end) for start, end in chart.arrows]
-    return tuple(sorted(arrows + [("bow", one, other) for one, other in chart.bows]))
+    return tuple(arrows + [("bow", one, other) for one, other in chart.bows])
 
 
 def without(chart, stretches):
@@ -111,11 +111,11 @@ def one_stretch_on(chart, ends, met, other):
         for stretch in stretches:
             if goes_on(way, stretch, stop):
                 beyond = end_beyond(stretch, stop)
-                longer = way + (stretch,)
                 # Where a stretch has no head nothing goes on, so it may only come to the end.
-                useful = beyond not in met and (beyond == other or has_head(stretch, beyond))
-                if useful and (beyond not in found or longer < found[beyond]):
-                    found[beyond] = longer
+                useful = beyond == other or has_head(stretch, beyond)
+                # Rows are met ascending here, so the first one that comes to a stop is the least.
+                if useful and beyond not in met and beyond not in found:
+                    found[beyond] = way + (stretch,)
     return found
 
 
