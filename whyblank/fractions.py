@@ -99,11 +99,12 @@ def total_of(some):
 
 def product_all(some):
     """The product of a sequence of fractions."""
-    top, bottom = 1, 1
+    product = ONE
     for one in some:
-        top *= one[0]
-        bottom *= one[1]
-    return fraction(top, bottom)
+        # Long products are reduced by what each factor can divide: reduced as a whole, they take minutes.
+        above, below = gcd(product[0], one[1]), gcd(one[0], product[1])
+        product = (product[0] // above * (one[0] // below), product[1] // below * (one[1] // above))
+    return product
 
 
 def least_of(some):
