@@ -4,10 +4,14 @@ import itertools
 from fractions import Fraction
 from random import Random
 
+from whyblank.asks import Ask
 from whyblank.books import Book
+from whyblank.bounds import Bounds
+from whyblank.called import CalledSheets
 from whyblank.charts import Chart
 from whyblank.errors import InvalidForm, NoName
 from whyblank.forms import Form
+from whyblank.kept import Kept
 from whyblank.makers import Maker, choices, values_of
 from whyblank.sheets import Sheets
 from whyblank.summing import Factor
@@ -38,7 +42,20 @@ def any_values():
         InvalidForm(1), NoName("a"), deep(()), deep(0), deep("debts"), deep((), list), deep(FORM), deep((0, 1)),
         ("order", ()), ("ring", ()), ("ring", None), ["order", ()], ("arrow", ("a", "debts"), ("b", "debts")),
         ("bow", ("a", "debts"), ("b", "debts")), (("arrow", ("a", "debts"), ("b", "debts")),),
+        Ask(None, None), Ask(("number", 1), ("all",)), Ask(["number", 1], ("all",)), ("all",), ["all"], ("number", 1), ("number", True),
+        ("is", "debts", 1), ("is", "debts", True), ("blank", "debts"), ("answer", "debts"), CalledSheets(FORM, (), ()),
+        CalledSheets(None, None, None), Bounds(None, None, None, None), Bounds((0, 1), (1, 1), FORM, FORM), Kept(FORM),
+        (Kept(FORM), Kept(FORM)), (("debts",), ()), (("debts",), ("earns",)), ((), ("debts",)), ((0, 0), (0, 1)), ((), ()),
+        deep(("not", ("all",))), nested(30),
     ]
+
+
+def nested(depth):
+    """A test that is right, and so many deep."""
+    test = ("all",)
+    for _ in range(depth - 1):
+        test = ("not", test)
+    return test
 
 
 BAD = [
@@ -194,6 +211,141 @@ def every_sheet(form):
 
 def blanked(form, lot, truth):
     return tuple(-1 if name in lot else answer for name, answer in zip(names(form), truth))
+
+
+def lot_on(form, sheet):
+    return tuple(name for name, answer in zip(names(form), sheet) if answer == -1)
+
+
+def as_dict(book):
+    """The shares of a book, as fractions of Python's own, by lot and truth."""
+    return {(lot, truth): frac(share) for lot, truth, share in book.shares}
+
+
+def book_with(form, parts):
+    """The book of a dict of numbers or fractions above 0 by lot and truth, in their measure."""
+    total = sum(parts.values())
+    return Book(form, tuple(sorted((lot, truth, pair_of(Fraction(one) / total)) for (lot, truth), one in parts.items())))
+
+
+def sheets_with(form, parts):
+    """The table of a dict of numbers or fractions above 0 by sheets, in their measure."""
+    total = sum(parts.values())
+    return Sheets(form, tuple(sorted((sheet, pair_of(Fraction(one) / total)) for sheet, one in parts.items())))
+
+
+def plain_sheets(book):
+    """The sheets of a book, told apart from the package."""
+    parts = {}
+    for (lot, truth), share in as_dict(book).items():
+        sheet = blanked(book.form, lot, truth)
+        parts[sheet] = parts.get(sheet, 0) + share
+    return sheets_with(book.form, parts)
+
+
+def free_for(form, shares, name):
+    """Whether a blank is free of its own answer, by a dict of shares by lot and truth, word by word."""
+    at = names(form).index(name)
+    for lot in subsets(names(form)):
+        if name not in lot:
+            more = tuple(sorted(lot + (name,)))
+            for one, other in itertools.combinations(every_truth(form), 2):
+                if one[:at] == other[:at] and one[at + 1:] == other[at + 1:]:
+                    ahead = shares.get((more, one), 0) * shares.get((lot, other), 0)
+                    if ahead != shares.get((more, other), 0) * shares.get((lot, one), 0):
+                        return False
+    return True
+
+
+def plain_own_blanks(book):
+    return tuple(name for name in names(book.form) if not free_for(book.form, as_dict(book), name))
+
+
+def closed_family(random, form, many=3):
+    """A random family that has all lots within its lots."""
+    tops = random.choices(subsets(names(form)), k=random.randrange(1, many + 1))
+    return tuple(sorted({lesser for lot in tops for lesser in subsets(lot)}))
+
+
+def some_truths(random, form):
+    return tuple(sorted(random.sample(every_truth(form), random.randrange(1, len(every_truth(form)) + 1))))
+
+
+def free_book(random, form, lots, truths, most=9):
+    """A free book with just these lots, each with just these truths, out of random numbers and weights."""
+    weights = {}
+    parts = {}
+    numbers = {truth: random.randrange(1, most) for truth in truths}
+    for lot in lots:
+        for truth in truths:
+            product = Fraction(numbers[truth])
+            for lesser in subsets(lot):
+                if lesser:
+                    sheet = blanked(form, lesser, truth)
+                    if sheet not in weights:
+                        weights[sheet] = Fraction(random.randrange(1, most), random.randrange(1, most))
+                    product *= weights[sheet]
+            parts[(lot, truth)] = product
+    return book_with(form, parts)
+
+
+def random_test(random, form, depth=3, plain=False):
+    words = ["all", "is", "is"] + ([] if plain else ["blank"]) + (["not", "both", "either"] if depth > 1 else [])
+    word = random.choice(words)
+    if word == "is":
+        name, many = random.choice(form.questions)
+        return (word, name, random.randrange(many))
+    if word == "blank":
+        return (word, random.choice(names(form)))
+    many = {"all": 0, "not": 1}.get(word, 2)
+    return (word,) + tuple(random_test(random, form, depth - 1, plain) for _ in range(many))
+
+
+def random_worth(random, form, depth=3, plain=False):
+    word = random.choice(["number", "answer", "if"] + (["plus", "times"] if depth > 1 else []))
+    if word == "number":
+        return (word, random.choice([0, 1, -1, 2, 7, -30, 10 ** 19]) if random.randrange(2) else random.randrange(-5, 6))
+    if word == "answer":
+        return (word, random.choice(names(form)))
+    if word == "if":
+        return (word, random_test(random, form, depth, plain))
+    return (word, random_worth(random, form, depth - 1, plain), random_worth(random, form, depth - 1, plain))
+
+
+def random_ask(random, form, depth=3, plain=False):
+    return Ask(random_worth(random, form, depth, plain), random_test(random, form, depth, plain))
+
+
+def plain_test(form, test, lot, truth):
+    """Whether a test holds, read word by word."""
+    known = dict(zip(names(form), truth))
+    return {
+        "all": lambda: True, "is": lambda: known[test[1]] == test[2], "blank": lambda: test[1] in lot,
+        "not": lambda: not plain_test(form, test[1], lot, truth),
+        "both": lambda: plain_test(form, test[1], lot, truth) and plain_test(form, test[2], lot, truth),
+        "either": lambda: plain_test(form, test[1], lot, truth) or plain_test(form, test[2], lot, truth),
+    }[test[0]]()
+
+
+def plain_worth(form, worth, lot, truth):
+    """A worth, read word by word."""
+    known = dict(zip(names(form), truth))
+    return {
+        "number": lambda: worth[1], "answer": lambda: known[worth[1]],
+        "if": lambda: 1 if plain_test(form, worth[1], lot, truth) else 0,
+        "plus": lambda: plain_worth(form, worth[1], lot, truth) + plain_worth(form, worth[2], lot, truth),
+        "times": lambda: plain_worth(form, worth[1], lot, truth) * plain_worth(form, worth[2], lot, truth),
+    }[worth[0]]()
+
+
+def plain_answer_by(book, ask):
+    """The mean worth among those for whom the test holds, None if there are none."""
+    total = told = Fraction(0)
+    for (lot, truth), share in as_dict(book).items():
+        if plain_test(book.form, ask.given, lot, truth):
+            total += share
+            told += share * plain_worth(book.form, ask.worth, lot, truth)
+    return told / total if total else None
 
 
 def seeded(number):

@@ -8,8 +8,13 @@ from helpers import (
     FORM, all_nodes, every_truth, is_package_object, names, random_book, random_chart, random_maker, random_sheets, same, seeded, subsets,
 )
 from test_charts import A, B, C, D
-from whyblank import books, charts, charttext, closedlots, forms, fractions, makers, sheets, summing, tallies, ways, weights
+from whyblank import (
+    asks, asktext, books, bounds, called, charts, charttext, choices, closedlots, counting, cuts, forms, fractions, kept, leans, lotrules, makers,
+    onebook, rowrules, sheets, summing, tallies, ways, weighing, weights,
+)
+from whyblank.asks import Ask
 from whyblank.books import Book
+from whyblank.called import CalledSheets
 from whyblank.charts import Chart
 from whyblank.forms import Form
 from whyblank.kinds import is_int, is_name, is_number
@@ -27,6 +32,17 @@ OTHER = Tally(FORM, ((3, 0, ((0, 0),)), (4, 1, ((1, -1),))))
 FACTOR = summing.factors_of(MAKER)[1]
 WAY = (("arrow", A, D), ("bow", B, D))
 BOW = (B, D)
+ONE_BOOK = onebook.one_book(TABLE)
+NEVER = ((), ("debts",), ("debts", "earns"))
+EVERY = ((), ("debts",), ("debts", "earns"), ("earns",))
+GAP = (("debts", "earns"), ("earns",))
+ALIKE = ((0, 0), (1, 1))
+ASK = Ask(("plus", ("answer", "debts"), ("number", 1)), ("not", ("both", ("is", "earns", 0), ("is", "debts", 1))))
+CALLED = called.called_sheets(BOOK, ("debts",))
+COUNTS = (((-1, 0), 2), ((0, 0), 3), ((1, 0), 1))
+PICKS = choices.picks(TABLE, ASK, 1, 1)
+OWN = (("arrow", A, C),)
+LEANING = Chart(FORM, ((A, C), (B, D)), ())
 
 CALLS = [
     (fractions.need_fraction, {"value": (1, 2)}), (fractions.is_fraction, {"value": (1, 2)}), (fractions.fraction, {"top": 2, "bottom": 4}),
@@ -86,6 +102,51 @@ CALLS = [
     (weights.why_not_grown, {"sheets": TABLE}), (weights.weight, {"sheets": TABLE, "sheet": (-1, -1)}), (weights.weights, {"sheets": TABLE}),
     (weights.check_weights, {"sheets": TABLE, "value": weights.weights(TABLE)}), (weights.behind, {"sheets": TABLE, "sheet": (-1, 0)}),
     (weights.stretch, {"sheets": TABLE, "truth": (0, 1)}),
+    (onebook.is_free, {"book": BOOK, "name": "debts"}), (onebook.own_blanks, {"book": BOOK}), (onebook.is_grown, {"book": BOOK}),
+    (onebook.one_book, {"sheets": TABLE}), (onebook.check_book, {"sheets": TABLE, "value": ONE_BOOK}),
+    (onebook.interplay, {"book": BOOK, "lot": ("debts",), "truth": (0, 1)}),
+    (onebook.grown_book, {"form": FORM, "fulls": (((0, 0), (1, 2)), ((0, 1), (2, 1))), "weights": (((0, -1), (3, 1)),)}),
+    (lotrules.need_family, {"form": FORM, "value": NEVER}), (lotrules.gaps, {"lots": NEVER}), (lotrules.closed_over, {"lots": NEVER}),
+    (lotrules.told_lots, {"lots": NEVER}), (lotrules.closed_families, {"form": FORM}),
+    (lotrules.linked, {"lots": NEVER, "lot": ("debts",), "names": ("debts",)}),
+    (lotrules.lean, {"form": FORM, "names": ("debts",), "truth": (1, 0)}),
+    (lotrules.lot_book, {"form": FORM, "lots": NEVER, "gap": GAP, "side": 1}),
+    (lotrules.two_lot_books, {"form": FORM, "lots": NEVER, "lot": ("debts", "earns")}),
+    (lotrules.lot_part, {"sheets": TABLE, "lot": ("debts",)}),
+    (rowrules.need_rows, {"form": FORM, "value": ALIKE}),
+    (rowrules.row_way, {"form": FORM, "rows": ((0, 0), (0, 1), (1, 1)), "lot": ("debts", "earns"), "one": (0, 0), "other": (1, 1)}),
+    (rowrules.pieces, {"form": FORM, "rows": ALIKE, "lot": ("debts", "earns")}),
+    (rowrules.fibre, {"form": FORM, "rows": ALIKE, "lot": ("debts",), "truth": (0, 1)}),
+    (rowrules.split, {"form": FORM, "rows": ALIKE, "lot": ("debts", "earns")}),
+    (rowrules.bridges, {"form": FORM, "rows": ALIKE, "lots": EVERY}), (rowrules.whole_lots, {"form": FORM, "rows": ALIKE, "lots": EVERY}),
+    (rowrules.row_book, {"form": FORM, "rows": ALIKE, "lots": EVERY, "lot": ("debts", "earns"), "side": -1}),
+    (rowrules.two_row_books, {"form": FORM, "rows": ALIKE, "lots": EVERY, "lot": ("debts", "earns")}),
+    (asks.need_ask, {"form": FORM, "value": ASK}), (asks.is_ask, {"form": FORM, "value": ASK}),
+    (asks.is_given, {"form": FORM, "ask": ASK, "lot": ("debts",), "truth": (0, 1)}),
+    (asks.worth_at, {"form": FORM, "ask": ASK, "lot": ("debts",), "truth": (0, 1)}), (asks.answer_by, {"book": BOOK, "ask": ASK}),
+    (asks.is_plain, {"ask": ASK}),
+    (weighing.weighed, {"sheets": TABLE, "ask": ASK}), (weighing.plain_answer, {"sheets": TABLE, "ask": ASK}),
+    (weighing.parts_of_sheets, {"sheets": TABLE, "ask": ASK}), (weighing.answer_by_sheets, {"sheets": TABLE, "ask": ASK}),
+    (weighing.is_fair, {"sheets": TABLE}), (weighing.unfair_ask, {"sheets": TABLE}),
+    (kept.more_blanks, {"sheet": (0, -1)}), (kept.weights_by, {"form": FORM, "counts": COUNTS}),
+    (asktext.ask_text, {"ask": ASK}), (asktext.read_ask, {"form": FORM, "value": "answer debts given is earns 1"}),
+    (called.need_called, {"value": CALLED}), (called.is_called, {"value": CALLED}),
+    (called.called_sheets, {"book": BOOK, "called": ("debts",)}), (called.uncalled, {"value": CALLED}), (called.is_full, {"value": CALLED}),
+    (called.called_weight, {"value": CALLED, "lot": ("debts", "earns"), "sheet": (0, -1)}), (called.book_called, {"value": CALLED}),
+    (called.called_share, {"book": BOOK, "called": ("debts",)}),
+    (choices.options, {"sheets": TABLE, "ask": ASK}), (choices.open_sheets, {"sheets": TABLE, "ask": ASK}),
+    (choices.picks, {"sheets": TABLE, "ask": ASK, "side": 1, "cut": 1}),
+    (choices.book_of_picks, {"sheets": TABLE, "ask": ASK, "some": PICKS}),
+    (bounds.bounds, {"sheets": TABLE, "ask": ASK}), (bounds.share_bounds, {"sheets": TABLE, "ask": Ask(("answer", "debts"), ("all",))}),
+    (bounds.book_at, {"sheets": TABLE, "ask": ASK, "answer": bounds.bounds(TABLE, ASK).most}), (bounds.is_certain, {"sheets": TABLE, "ask": ASK}),
+    (bounds.check_bounds, {"sheets": TABLE, "ask": ASK, "value": bounds.bounds(TABLE, ASK)}),
+    (counting.doubts, {"tally": TALLY}), (counting.gone, {"tally": TALLY}), (counting.counted, {"tally": OTHER}),
+    (counting.next_letter, {"tally": TALLY, "number": 3, "word": (0, 1)}), (counting.sheets_counted, {"tally": OTHER}),
+    (cuts.apart_ways, {"chart": CHART, "one": A, "other": D}), (cuts.fewest_cut, {"chart": CHART, "one": A, "other": D}),
+    (cuts.check_cut, {"chart": CHART, "one": A, "other": D, "value": (cuts.apart_ways(CHART, A, D), cuts.fewest_cut(CHART, A, D))}),
+    (leans.sign, {"value": 1}), (leans.leaned_row, {"many": 3, "strength": (1, 2)}), (leans.coins_along, {"chart": CHART, "way": WAY}),
+    (leans.table_along, {"chart": LEANING, "name": "debts", "way": OWN, "lean": -1, "node": C}),
+    (leans.tables_along, {"chart": LEANING, "name": "debts", "way": OWN, "lean": -1}),
 ]
 
 
@@ -179,13 +240,14 @@ class Kinds(unittest.TestCase):
             self.assertIs(is_name("a" + letter), letter in "abcdefghijklmnopqrstuvwxyz")
 
     def test_no_length_and_nothing_to_iterate(self):
-        for one in (FORM, BOOK, TABLE, CHART, MAKER, FACTOR, TALLY):
+        for one in (FORM, BOOK, TABLE, CHART, MAKER, FACTOR, TALLY, ASK, CALLED, bounds.bounds(TABLE, ASK), kept.Kept(FORM)):
             for call in (len, iter, list):
                 with self.assertRaises(TypeError):
                     call(one)
 
     def test_equal_to_nothing_of_another_class(self):
         things = [Form(None), Book(None, None), Sheets(None, None), Chart(None, None, None), Maker(None, None, None), FACTOR, TALLY]
+        things += [Ask(None, None), CalledSheets(None, None, None), bounds.Bounds(None, None, None, None)]
         for one, other in itertools.permutations(things, 2):
             self.assertFalse(one == other)
             self.assertTrue(one != other)

@@ -92,6 +92,155 @@ WEIGHTS = '''
 >>> behind(came, (-1, 1)), stretch(came, (0, 1)), stretch(came, (0, 0))
 ((((0, 1), (1, 2)), ((1, 1), (1, 2))), (8, 1), (8, 3))
 '''
+ONE_BOOK = '''
+>>> from whyblank.charts import Chart
+>>> from whyblank.forms import Form
+>>> from whyblank.makers import Maker, book_made
+>>> from whyblank.sheets import sheets_of
+>>> form, half = Form((("debts", 2), ("income", 2))), ((1, 2), (1, 2))
+>>> chart = Chart(form, ((("a", "income"), ("b", "debts")),), ())
+>>> maker = Maker(chart, (), ((half,), (half,), (((3, 4), (1, 4)), ((1, 4), (3, 4))), (half,)))
+>>> came = sheets_of(book_made(maker))
+>>> from whyblank.onebook import one_book, own_blanks
+>>> one_book(came) == book_made(maker), own_blanks(book_made(maker))
+(True, ())
+'''
+LOTS = '''
+>>> from whyblank.books import part
+>>> from whyblank.forms import Form
+>>> from whyblank.lotrules import gaps, linked, lot_part, told_lots, two_lot_books
+>>> from whyblank.sheets import sheets_of
+>>> form = Form((("debts", 2), ("earns", 2)))
+>>> never = ((), ("debts",), ("debts", "earns"))
+>>> gaps(never), told_lots(never), linked(never, ("debts", "earns"), ("debts",))
+(((('debts', 'earns'), ('earns',)),), ((), ('debts',)), (('debts', 'earns'),))
+>>> one, other = two_lot_books(form, never, ("debts", "earns"))
+>>> sheets_of(one) == sheets_of(other), part(one, ("debts", "earns"))[:2], part(other, ("debts", "earns"))[:2]
+(True, (((0, 0), (1, 8)), ((0, 1), (1, 8))), (((0, 0), (1, 24)), ((0, 1), (1, 24))))
+>>> lot_part(sheets_of(one), ("debts",)) == part(one, ("debts",))
+True
+'''
+ROWS = '''
+>>> from whyblank.books import part
+>>> from whyblank.forms import Form
+>>> from whyblank.rowrules import bridges, pieces, row_way, split, two_row_books, whole_lots
+>>> from whyblank.sheets import sheets_of
+>>> form = Form((("debts", 2), ("earns", 2)))
+>>> both = ((), ("debts",), ("debts", "earns"), ("earns",))
+>>> alike = ((0, 0), (1, 1))
+>>> split(form, alike, ("debts", "earns")), whole_lots(form, alike, both), bridges(form, alike, both)
+(((0, 0), (1, 1)), ((), ('debts',), ('earns',)), ((0, 1), (1, 0)))
+>>> one, other = two_row_books(form, alike, both, ("debts", "earns"))
+>>> part(one, ("debts", "earns")), part(other, ("debts", "earns")), sheets_of(one) == sheets_of(other)
+((((0, 0), (3, 16)), ((1, 1), (1, 16))), (((0, 0), (1, 16)), ((1, 1), (3, 16))), True)
+>>> three = ((0, 0), (0, 1), (1, 1))
+>>> row_way(form, three, ("debts", "earns"), (0, 0), (1, 1)), pieces(form, three, ("debts",))
+(((0, 0), (0, 1), (1, 1)), (((0, 0),), ((0, 1), (1, 1))))
+'''
+ASKS = '''
+>>> from whyblank.asks import Ask, answer_by
+>>> from whyblank.charts import Chart
+>>> from whyblank.forms import Form
+>>> from whyblank.makers import Maker, book_made
+>>> form, half = Form((("debts", 2), ("income", 2))), ((1, 2), (1, 2))
+>>> chart = Chart(form, ((("a", "income"), ("b", "debts")),), ())
+>>> maker = Maker(chart, (), ((half,), (half,), (((3, 4), (1, 4)), ((1, 4), (3, 4))), (half,)))
+>>> answer_by(book_made(maker), Ask(("answer", "income"), ("blank", "debts")))
+(3, 4)
+>>> from whyblank.asktext import ask_text, read_ask
+>>> ask_text(Ask(("if", ("is", "debts", 1)), ("not", ("blank", "debts"))))
+'if is debts 1 given not blank debts'
+>>> read_ask(form, "answer income given all") == Ask(("answer", "income"), ("all",))
+True
+>>> from whyblank.sheets import sheets_of
+>>> from whyblank.weighing import is_fair, plain_answer, weighed
+>>> came = sheets_of(book_made(maker))
+>>> rich = Ask(("answer", "income"), ("all",))
+>>> plain_answer(came, rich), weighed(came, rich), answer_by(book_made(maker), rich), is_fair(came)
+((1, 4), (1, 2), (1, 2), False)
+'''
+KEPT = '''
+>>> from whyblank.asks import Ask
+>>> from whyblank.forms import Form
+>>> from whyblank.kept import Kept, more_blanks
+>>> desk = Kept(Form((("debts", 2),)))
+>>> desk.put((0,), 3), desk.put((1,), 1), desk.put((-1,), 2), desk.weights(), desk.last(), desk.done()
+(None, None, None, (((-1,), (1, 2)),), ((-1,),), 5)
+>>> desk.answer_now(Ask(("answer", "debts"), ("all",))), desk.undo(), desk.weights(), more_blanks((0, -1, 1))
+((1, 4), True, (), ((-1, -1, -1), (-1, -1, 1), (0, -1, -1), (0, -1, 1)))
+'''
+CUTS = '''
+>>> from whyblank.charts import Chart
+>>> from whyblank.cuts import check_cut, fewest_cut
+>>> from whyblank.forms import Form
+>>> from whyblank.ways import way_of
+>>> form, to = Form((("debts", 2), ("drink", 3))), ("b", "debts")
+>>> chart = Chart(form, ((("a", "debts"), to), (("a", "drink"), to)), ((to, ("b", "drink")),))
+>>> cut = fewest_cut(chart, ("a", "drink"), ("b", "drink"))
+>>> len(cut), check_cut(chart, ("a", "drink"), ("b", "drink"), ((way_of(chart, "drink"),), cut))
+(1, True)
+'''
+COUNTING = '''
+>>> from whyblank.counting import counted, doubts, next_letter, sheets_counted
+>>> from whyblank.forms import Form
+>>> from whyblank.tallies import heard, merged, missing_letters, tally_of
+>>> form = Form((("debts", 2), ("earns", 2)))
+>>> east = tally_of(form, ((7, 0, (0, 1)), (7, 1, (-1, 1)), (3, 0, (0, 0))))
+>>> west = tally_of(form, ((7, 0, (0, 1)), (3, 0, (0, -1)), (4, 0, (1, 1)), (5, 2, ())))
+>>> both = merged(east, west)
+>>> doubts(both), counted(both), missing_letters(east, west)
+((3,), ((4, (1, 1)), (7, (-1, 1))), ((3, 0, (0, 0)), (7, 1, (-1, 1))))
+>>> next_letter(both, 3, (0, 0)), sheets_counted(heard(both, (3, 1, (0, 0)))).shares
+((3, 1, (0, 0)), (((-1, 1), (1, 3)), ((0, 0), (1, 3)), ((1, 1), (1, 3))))
+'''
+LEANS = '''
+>>> from whyblank.charts import Chart
+>>> from whyblank.forms import Form
+>>> from whyblank.leans import coins_along, tables_along
+>>> from whyblank.ways import way_of
+>>> form = Form((("debts", 2), ("drink", 2)))
+>>> chart = Chart(form, ((("a", "drink"), ("b", "drink")),), ())
+>>> way = way_of(chart, "drink")
+>>> tables_along(chart, "drink", way, 1)[1], tables_along(chart, "drink", way, 1)[3], tables_along(chart, "drink", way, -1)[3]
+((((5, 8), (3, 8)),), (((2, 5), (3, 5)), ((2, 3), (1, 3))), (((2, 3), (1, 3)), ((2, 5), (3, 5))))
+>>> coins_along(chart, way)
+()
+'''
+CALLED = '''
+>>> from whyblank.books import Book
+>>> from whyblank.called import book_called, called_share, called_sheets, called_weight
+>>> from whyblank.forms import Form
+>>> form = Form((("pets", 2),))
+>>> town = Book(form, (((), (0,), (1, 2)), ((), (1,), (1, 6)), (("pets",), (0,), (1, 12)), (("pets",), (1,), (1, 4))))
+>>> book_called(called_sheets(town, ("pets",))) == town, book_called(called_sheets(town, ())) == town
+(True, False)
+>>> called_weight(called_sheets(town, ()), ("pets",), (-1,)), book_called(called_sheets(town, ())).shares[2:], called_share(town, ("pets",))
+((1, 2), ((('pets',), (0,), (1, 4)), (('pets',), (1,), (1, 12))), (1, 3))
+'''
+BOUNDS = '''
+>>> from whyblank.asks import Ask, answer_by
+>>> from whyblank.bounds import book_at, bounds, check_bounds, is_certain, share_bounds
+>>> from whyblank.choices import open_sheets, options, picks
+>>> from whyblank.forms import Form
+>>> from whyblank.sheets import gathered_sheets, sheets_of
+>>> form = Form((("debts", 2), ("earns", 2)))
+>>> back = gathered_sheets(form, (((0, 0), (3, 8)), ((0, 1), (1, 8)), ((1, 1), (1, 8)), ((-1, 1), (3, 8))))
+>>> owes = Ask(("answer", "debts"), ("is", "earns", 1))
+>>> options(back, owes), open_sheets(back, owes)
+((((-1, 1), (0, 1)), ((0, 0), (None,)), ((0, 1), (0,)), ((1, 1), (1,))), ((-1, 1),))
+>>> found = bounds(back, owes)
+>>> found.least, found.most, share_bounds(back, owes), is_certain(back, owes)
+((1, 5), (4, 5), ((1, 5), (4, 5)), False)
+>>> answer_by(book_at(back, owes, (1, 2)), owes), sheets_of(found.high) == back, check_bounds(back, owes, found)
+((1, 2), True, True)
+>>> picks(back, owes, 1, 1)
+(((-1, 1), 1), ((0, 0), None), ((0, 1), 0), ((1, 1), 1))
+'''
+EXAMPLES = [
+    ("books", BOOKS), ("charts", CHARTS), ("ways", WAYS), ("makers", MAKERS), ("tallies", TALLIES), ("weights", WEIGHTS), ("onebook", ONE_BOOK),
+    ("lotrules", LOTS), ("rowrules", ROWS), ("asks", ASKS), ("kept", KEPT), ("cuts", CUTS), ("counting", COUNTING), ("leans", LEANS),
+    ("called", CALLED), ("bounds", BOUNDS),
+]
 
 
 class Examples(unittest.TestCase):
@@ -103,7 +252,7 @@ class Examples(unittest.TestCase):
         self.assertEqual(found.failed, 0, "".join(told))
 
     def test_examples_of_the_document(self):
-        for name, text in (("books", BOOKS), ("charts", CHARTS), ("ways", WAYS), ("makers", MAKERS), ("tallies", TALLIES), ("weights", WEIGHTS)):
+        for name, text in EXAMPLES:
             with self.subTest(name=name):
                 self.right(name, text)
 

@@ -56,6 +56,44 @@ FUNCTIONS = {
         lots_that_come(sheets) truths_that_come(sheets) is_every(sheets) why_not_grown(sheets) weight(sheets,sheet)
         weights(sheets) check_weights(sheets,value) behind(sheets,sheet) stretch(sheets,truth)
     """,
+    "onebook": """
+        is_free(book,name) own_blanks(book) is_grown(book) one_book(sheets) check_book(sheets,value) interplay(book,lot,truth)
+        grown_book(form,fulls,weights)
+    """,
+    "lotrules": """
+        need_family(form,value) gaps(lots) closed_over(lots) told_lots(lots) closed_families(form) linked(lots,lot,names)
+        lean(form,names,truth) lot_book(form,lots,gap,side) two_lot_books(form,lots,lot) lot_part(sheets,lot)
+    """,
+    "rowrules": """
+        need_rows(form,value) row_way(form,rows,lot,one,other) pieces(form,rows,lot) fibre(form,rows,lot,truth)
+        split(form,rows,lot) bridges(form,rows,lots) whole_lots(form,rows,lots) row_book(form,rows,lots,lot,side)
+        two_row_books(form,rows,lots,lot)
+    """,
+    "asks": """
+        need_ask(form,value) is_ask(form,value) is_given(form,ask,lot,truth) worth_at(form,ask,lot,truth) answer_by(book,ask)
+        is_plain(ask)
+    """,
+    "weighing": """
+        weighed(sheets,ask) plain_answer(sheets,ask) parts_of_sheets(sheets,ask) answer_by_sheets(sheets,ask) is_fair(sheets)
+        unfair_ask(sheets)
+    """,
+    "kept": "more_blanks(sheet) weights_by(form,counts)",
+    "asktext": "ask_text(ask) read_ask(form,value)",
+    "called": """
+        need_called(value) is_called(value) called_sheets(book,called) uncalled(value) is_full(value)
+        called_weight(value,lot,sheet) book_called(value) called_share(book,called)
+    """,
+    "choices": "options(sheets,ask) open_sheets(sheets,ask) picks(sheets,ask,side,cut) book_of_picks(sheets,ask,some)",
+    "bounds": """
+        bounds(sheets,ask) share_bounds(sheets,ask) book_at(sheets,ask,answer) is_certain(sheets,ask)
+        check_bounds(sheets,ask,value)
+    """,
+    "counting": "doubts(tally) gone(tally) counted(tally) next_letter(tally,number,word) sheets_counted(tally)",
+    "cuts": "apart_ways(chart,one,other) fewest_cut(chart,one,other) check_cut(chart,one,other,value)",
+    "leans": """
+        sign(value) leaned_row(many,strength) coins_along(chart,way) table_along(chart,name,way,lean,node)
+        tables_along(chart,name,way,lean)
+    """,
 }
 CLASSES = {
     "forms": "Form(questions)",
@@ -65,7 +103,14 @@ CLASSES = {
     "makers": "Maker(chart,coins,tables)",
     "summing": "Factor(things,sizes,shares)",
     "tallies": "Tally(form,rows)",
+    "asks": "Ask(worth,given)",
+    "called": "CalledSheets(form,called,shares)",
+    "bounds": "Bounds(least,most,low,high)",
 }
+KEPT = """
+    put(sheet,many) take(sheet,many) move(sheet,other,many) counts() whole() weights() weight_now(sheet) last() done() table()
+    book_now() answer_now(ask) undo() redo() depth() twin()
+"""
 ERRORS = """
     InvalidFraction(at) InvalidForm(at) InvalidBook(at) InvalidSheets(at) InvalidChart(at) InvalidMaker(at) InvalidWay(at)
     InvalidAsk(at) InvalidText(at) InvalidSize(word) InvalidCommand() Refused(word) NoName(name)
@@ -106,6 +151,17 @@ class Interface(unittest.TestCase):
             self.assertIn("__eq__", vars(made))
             self.assertIn("__init__", vars(made))
             self.assertEqual(sorted(vars(made(*wanted))), sorted(wanted))
+
+    def test_kept(self):
+        made = importlib.import_module("whyblank.kept").Kept
+        self.assertEqual((made.__module__, made.__name__, made.__bases__), ("whyblank.kept", "Kept", (object,)))
+        self.parameters(made, ["form"])
+        for told in KEPT.split():
+            name, wanted = split(told)
+            self.assertTrue(inspect.isfunction(vars(made)[name]), name)
+            self.parameters(vars(made)[name], ["self"] + wanted)
+        self.assertIn("form", vars(made("form")))
+        self.assertNotIn("__eq__", vars(made))
 
     def test_errors(self):
         module = importlib.import_module("whyblank.errors")
