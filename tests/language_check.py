@@ -439,6 +439,18 @@ def check_values(package, code):
             package.wrong("L13", code, node.lineno, "a set of three integers")
 
 
+def check_lambdas(package, code):
+    """No two lambdas with parameters of the same names stand on one line."""
+    seen = set()
+    for node in ast.walk(code.tree):
+        if isinstance(node, ast.Lambda):
+            for line in range(node.lineno, node.end_lineno + 1):
+                key = (line, tuple(one.arg for one in node.args.args))
+                if key in seen:
+                    package.wrong("L13", code, node.lineno, "two lambdas with the same parameters on one line")
+                seen.add(key)
+
+
 def is_integer_literal(node):
     if isinstance(node, ast.UnaryOp):
         node = node.operand
@@ -751,7 +763,7 @@ def check_strings_together(package):
 
 CHECKS = [
     check_files, check_sizes, check_imports, check_library, check_module_level, check_functions, check_statements,
-    check_values, check_names_used, check_plain_names, check_bound_names, check_barred_names, check_class_use,
+    check_values, check_lambdas, check_names_used, check_plain_names, check_bound_names, check_barred_names, check_class_use,
     check_calls, check_iterated, check_sets, check_methods, check_numbers,
 ]
 

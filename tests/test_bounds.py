@@ -77,6 +77,37 @@ class OfAsks(Case):
         found = bounds(ask=OWES, sheets=BACK)
         self.assertEqual((found.least, found.most), ((1, 5), (4, 5)))
 
+    def test_many_worths(self):
+        """Sheets of each worth that may be asked or not: the best cut may be any of them."""
+        random = seeded(244)
+        form = Form((("a", 4), ("b", 2)))
+        ends = set()
+        for _ in range(150):
+            sheets = random.sample([(answer, last) for answer in range(4) for last in (-1, 1)] + [(-1, 1), (-1, -1)], random.randrange(2, 8))
+            one = sheets_with(form, {sheet: random.choice([1, 1, 2, 3, 9]) for sheet in sheets})
+            factor = random.choice([1, -1, -3, 5])
+            ask = Ask(("plus", ("times", ("answer", "a"), ("number", factor)), ("number", random.randrange(-4, 3))), ("is", "b", 1))
+            least, most = plain_bounds(one, ask)
+            found, cuts = bounds(one, ask), worths_of(one, ask)
+            self.assertTrue(same((found.least, found.most), (pair_of(least), pair_of(most))))
+            low = [cut for cut in cuts if answer_of(one, plain_picks(one, ask, -1, cut)) == least]
+            high = [cut for cut in cuts if answer_of(one, plain_picks(one, ask, 1, cut)) == most]
+            self.assertTrue(same(found.low, book_of_picks(one, ask, plain_picks(one, ask, -1, low[0]))))
+            self.assertTrue(same(found.high, book_of_picks(one, ask, plain_picks(one, ask, 1, high[-1]))))
+            ends.add((cuts.index(low[0]), len(cuts) - cuts.index(high[-1])))
+        self.assertGreater(len(ends), 5)
+
+    def test_the_least_and_the_greatest_cut_of_several(self):
+        """A sheet that may be asked and has the answer itself as worth: the outermost cut leaves it out."""
+        form = Form((("a", 3), ("b", 2)))
+        one = sheets_with(form, {(0, 1): 1, (2, 1): 1, (1, -1): 5})
+        for factor in (1, -1, -2, 3):
+            ask = Ask(("times", ("answer", "a"), ("number", factor)), ("is", "b", 1))
+            found = bounds(one, ask)
+            self.assertEqual((found.least, found.most), ((factor, 1), (factor, 1)))
+            expected = book_with(form, {((), (0, 1)): 1, ((), (2, 1)): 1, (("b",), (1, 0)): 5})
+            self.assertTrue(same((found.low, found.high), (expected, expected)))
+
     def test_no_book_answers_beyond(self):
         for random, one, ask in small(231, 120):
             if plain_bounds(one, ask) is None:
@@ -247,6 +278,15 @@ class Checked(Case):
         other = book_with(FORM, {((), (0, 0)): 1, (("debts", "earns"), (1, 1)): 1})
         self.assertNotEqual(other, right.high)
         self.assertIs(check_bounds(one, ask, Bounds(right.least, right.most, right.low, other)), True)
+
+    def test_books_in_which_nobody_is_asked(self):
+        sole = Form((("debts", 2),))
+        one = sheets_with(sole, {(-1,): 1})
+        ask = Ask(("answer", "debts"), ("is", "debts", 0))
+        low, nobody = book_with(sole, {(("debts",), (0,)): 1}), book_with(sole, {(("debts",), (1,)): 1})
+        self.assertIs(check_bounds(one, ask, Bounds((0, 1), (0, 1), low, low)), True)
+        for books in ((low, nobody), (nobody, low), (nobody, nobody)):
+            self.assertIs(check_bounds(one, ask, Bounds((0, 1), (0, 1), *books)), False)
 
     def test_any_values(self):
         sole = Form((("debts", 2),))

@@ -8,7 +8,7 @@ from helpers import FORM, WIDE, all_nodes, any_values, deep, mutants, random_cha
 from test_charts import A, B, BIG, C, D, EMPTY, FULL
 from test_ways import all_ways, fault, lines, small_charts
 from whyblank.charts import Chart
-from whyblank.cuts import apart_ways, check_cut, fewest_cut
+from whyblank.cuts import apart_ways, check_cut, fewest_cut, way_sent
 from whyblank.forms import Form
 from whyblank.ways import is_way, way_between, ways_between, without
 
@@ -123,6 +123,15 @@ class Cuts(Case):
         chart = Chart(form, (), tuple(sorted(tuple(sorted(bow)) for bow in bows)))
         self.assertEqual(way_between(chart, a, f)[1], ("bow", b, d))
         self.assertEqual(self.judged(chart, a, f), 2)
+
+    def test_round_trips_are_left_out(self):
+        a, b, c, d, e = [("b", letter) for letter in "abcde"]
+        trip = [("bow", a, b), ("bow", b, c), ("bow", c, d), ("bow", b, d), ("bow", b, e)]
+        sent = dict(zip(trip, (a, b, c, d, b)))
+        self.assertEqual(way_sent(sent, a, e), (("bow", a, b), ("bow", b, e)))
+        self.assertIsNone(way_sent(sent, a, e))
+        back = {("bow", a, c): a, ("bow", b, c): c, ("bow", a, b): b, ("bow", a, e): a}
+        self.assertEqual(way_sent(back, a, e), (("bow", a, e),))
 
     def test_great_charts(self):
         for one, other in random_pairs(BIG, 253, 12):

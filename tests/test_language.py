@@ -48,6 +48,7 @@ WRONG = [
     ("L12", "def f(a):\n    __b = a\n    return __b\n"),
     ("L12", "def f(a):\n    for _ in a:\n        return _\n"),
     ("L13", "def f(a):\n    return a == {1, 2, 3}\n"),
+    ("L13", "def f(a):\n    return a(lambda x: 1, lambda x: 2)\n"),
     ("L14", "X = \"\u00e4\"\n"),
     ("L14", "# \u00e4\n"),
     ("L15", "X = 1\nX = 2\n"),

@@ -12,7 +12,7 @@ from helpers import (
 )
 from test_books import fault as book_fault
 from test_weights import DEBTS, EARNS, PAIR, grown, grown_tables, not_grown, table
-from whyblank.books import Book, need_book
+from whyblank.books import Book, need_book, truth_shares
 from whyblank.errors import InvalidSize, NoName, Refused
 from whyblank.forms import Form
 from whyblank.makers import book_made, free_given_rest
@@ -20,7 +20,7 @@ from whyblank.onebook import check_book, grown_book, interplay, is_free, is_grow
 from whyblank.rowrules import two_row_books
 from whyblank.sheets import Sheets, sheets_of
 from whyblank.ways import own_ways
-from whyblank.weights import weights
+from whyblank.weights import behind, stretch, weight, weights
 
 SOLE = Form((("debts", 2),))
 
@@ -273,6 +273,33 @@ def splits(parts, kept, total):
 
 def unfree(parts):
     return [name for name in names(FORM) if not free_for(FORM, parts, name)]
+
+
+class WhatRestsOnIt(Case):
+    def test_behind_and_stretch_are_those_of_the_one_book(self):
+        """Point [42]: who sent a sheet, and how often full sheets count, as the one book tells it."""
+        for one in grown_tables(119, 40):
+            parts, shares = plain_one_book(one), {sheet: frac(share) for sheet, share in one.shares}
+            for sheet in every_sheet(one.form):
+                lot, expected = lot_on(one.form, sheet), []
+                for truth in every_truth(one.form):
+                    if sheet in shares and (lot, truth) in parts and blanked(one.form, lot, truth) == sheet:
+                        expected.append((truth, pair_of(parts[(lot, truth)] / shares[sheet])))
+                self.assertTrue(same(behind(one, sheet), tuple(expected)))
+            told = dict(truth_shares(one_book(one)))
+            for truth in every_truth(one.form):
+                expected = frac(told[truth]) / shares[truth] if truth in told else Fraction(0)
+                self.assertTrue(same(stretch(one, truth), pair_of(expected)))
+
+    def test_weights_are_what_lots_take_beside_smaller_ones(self):
+        """Point [37]: by the one book, a weight is the interplay of its lot, where every lot comes with every truth."""
+        random = seeded(129)
+        for _ in range(15):
+            form = random_form(random, 2, 3)
+            book = free_book(random, form, subsets(names(form)), every_truth(form))
+            for lot, truth, _ in book.shares:
+                if lot:
+                    self.assertEqual(weight(sheets_of(book), blanked(form, lot, truth)), interplay(book, lot, truth))
 
 
 class Checked(Case):

@@ -24,18 +24,21 @@ def is_triple(form, value):
     return is_fraction(value[2]) and sign_of(value[2]) > 0
 
 
+def shares_fault(rows, right):
+    """The number of the first row that is not right or not above the one ahead, how many there are if all are, but
+    their shares together are not 1; None if nothing is wrong. A row's share stands last, behind what it is told by.
+    """
+    for at, row in enumerate(rows):
+        if not right[at] or (at > 0 and row[:-1] <= rows[at - 1][:-1]):
+            return at
+    return None if total_of([row[-1] for row in rows]) == ONE else len(rows)
+
+
 def book_fault(value):
     """What is wrong with any value as a book, as `need_book` tells it; None if nothing is."""
     if not isinstance(value, Book) or not is_form(value.form) or not isinstance(value.shares, tuple):
         return -1
-    for at, triple in enumerate(value.shares):
-        if not is_triple(value.form, triple):
-            return at
-        if at > 0 and triple[:2] <= value.shares[at - 1][:2]:
-            return at
-    if total_of([triple[2] for triple in value.shares]) != ONE:
-        return len(value.shares)
-    return None
+    return shares_fault(value.shares, [is_triple(value.form, triple) for triple in value.shares])
 
 
 def need_book(value):

@@ -1,6 +1,6 @@
 """Called sheets: some questions are asked again of whoever left them blank, and are then answered truly."""
 
-from whyblank.books import Book
+from whyblank.books import Book, shares_fault
 from whyblank.errors import InvalidSheets, Refused
 from whyblank.forms import is_form, is_lot, is_sheet, lot_of, lots, lots_within, names_of, sheet_of, truths
 from whyblank.forms import truths_behind, without_names
@@ -40,14 +40,7 @@ def called_fault(value):
         return -1
     if not isinstance(value.shares, tuple):
         return -1
-    for at, triple in enumerate(value.shares):
-        if not is_called_triple(value.form, value.called, triple):
-            return at
-        if at > 0 and triple[:2] <= value.shares[at - 1][:2]:
-            return at
-    if total_of([triple[2] for triple in value.shares]) != ONE:
-        return len(value.shares)
-    return None
+    return shares_fault(value.shares, [is_called_triple(value.form, value.called, row) for row in value.shares])
 
 
 def need_called(value):

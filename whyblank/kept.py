@@ -69,8 +69,8 @@ class Kept:
         self._values = {}
         self._last = ()
         self._done = 0
-        self._past = []
-        self._ahead = []
+        self._past = ()
+        self._ahead = ()
 
     def put(self, sheet, many):
         """Counts a sheet so many times more."""
@@ -106,8 +106,8 @@ class Kept:
     def _step(self, changes):
         """Does a new step."""
         self._change(changes)
-        self._past.append(changes)
-        self._ahead = []
+        self._past = self._past + (changes,)
+        self._ahead = ()
 
     def _change(self, changes):
         """Changes the numbers of sheets, and does the kept weights that hang on them anew."""
@@ -167,18 +167,20 @@ class Kept:
         """Takes back the last step that stands, and tells whether there is one."""
         if not self._past:
             return False
-        changes = self._past.pop()
+        changes = self._past[-1]
         self._change(turned_back(changes))
-        self._ahead.append(changes)
+        self._past = self._past[:-1]
+        self._ahead = self._ahead + (changes,)
         return True
 
     def redo(self):
         """Does the last step that was taken back once more, and tells whether there is one."""
         if not self._ahead:
             return False
-        changes = self._ahead.pop()
+        changes = self._ahead[-1]
         self._change(changes)
-        self._past.append(changes)
+        self._past = self._past + (changes,)
+        self._ahead = self._ahead[:-1]
         return True
 
     def depth(self):
@@ -192,6 +194,6 @@ class Kept:
         other._values = {sheet: self._values[sheet] for sheet in self._values}
         other._last = self._last
         other._done = self._done
-        other._past = list(self._past)
-        other._ahead = list(self._ahead)
+        other._past = self._past
+        other._ahead = self._ahead
         return other

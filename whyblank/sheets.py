@@ -1,6 +1,6 @@
 """Tables of sheets: how great a share of all sheets is which."""
 
-from whyblank.books import gathered_book
+from whyblank.books import gathered_book, shares_fault
 from whyblank.errors import InvalidSheets, Refused
 from whyblank.forms import Form, is_form, is_sheet, place_of, sheet_of, without_names
 from whyblank.fractions import ONE, ZERO, added_up, is_fraction, sign_of, total_of
@@ -29,14 +29,7 @@ def sheets_fault(value):
     """What is wrong with any value as a table of sheets, as `need_sheets` tells it; None if nothing is."""
     if not isinstance(value, Sheets) or not is_form(value.form) or not isinstance(value.shares, tuple):
         return -1
-    for at, pair in enumerate(value.shares):
-        if not is_sheet_share(value.form, pair):
-            return at
-        if at > 0 and pair[0] <= value.shares[at - 1][0]:
-            return at
-    if total_of([pair[1] for pair in value.shares]) != ONE:
-        return len(value.shares)
-    return None
+    return shares_fault(value.shares, [is_sheet_share(value.form, pair) for pair in value.shares])
 
 
 def need_sheets(value):
