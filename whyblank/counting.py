@@ -1,8 +1,6 @@
 """Counting: which numbers of a tally are in doubt, gone, or count, and the table of what counts."""
 
-from whyblank.errors import Refused
-from whyblank.fractions import fraction
-from whyblank.sheets import gathered_sheets
+from whyblank.sheets import even_sheets
 
 
 def doubts(tally):
@@ -28,7 +26,4 @@ def next_letter(tally, number, word):
 
 def sheets_counted(tally):
     """The table of sheets in which each number that counts adds an equal share to its sheet."""
-    found = counted(tally)
-    if not found:
-        raise Refused("none")
-    return gathered_sheets(tally.form, [(sheet, fraction(1, len(found))) for _, sheet in found])
+    return even_sheets(tally.form, [sheet for _, sheet in counted(tally)])

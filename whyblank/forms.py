@@ -16,9 +16,14 @@ class Form:
         return isinstance(other, Form) and self.questions == other.questions
 
 
+def is_many(value):
+    """Whether any value is how many answers a question may have."""
+    return is_int(value) and 2 <= value <= 9
+
+
 def may_follow(ahead, value):
     """Whether any value is a question that may stand behind these questions."""
-    if not is_tuple_of(value, 2) or not is_name(value[0]) or not is_int(value[1]) or not 2 <= value[1] <= 9:
+    if not is_tuple_of(value, 2) or not is_name(value[0]) or not is_many(value[1]):
         return False
     return len(ahead) == 0 or value[0] > ahead[-1][0]
 

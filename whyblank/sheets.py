@@ -3,7 +3,7 @@
 from whyblank.books import gathered_book, shares_fault
 from whyblank.errors import InvalidSheets, Refused
 from whyblank.forms import Form, is_form, is_sheet, place_of, sheet_of, without_names
-from whyblank.fractions import ONE, ZERO, added_up, is_fraction, sign_of, total_of
+from whyblank.fractions import ONE, ZERO, added_up, fraction, is_fraction, sign_of, total_of
 from whyblank.kinds import is_tuple_of
 
 
@@ -50,6 +50,13 @@ def gathered_sheets(form, shares):
     if total_of([pair[1] for pair in found]) != ONE:
         raise Refused("total")
     return Sheets(form, found)
+
+
+def even_sheets(form, some):
+    """The table in which each of some sheets, which may be alike, adds an equal share."""
+    if not some:
+        raise Refused("none")
+    return gathered_sheets(form, [(sheet, fraction(1, len(some))) for sheet in some])
 
 
 def sheet_share(sheets, sheet):
