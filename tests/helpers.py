@@ -9,11 +9,16 @@ from whyblank.books import Book
 from whyblank.bounds import Bounds
 from whyblank.called import CalledSheets
 from whyblank.charts import Chart
+from whyblank.desk import Desk
 from whyblank.errors import InvalidForm, NoName
 from whyblank.forms import Form
+from whyblank.judging import Apart, Told
 from whyblank.kept import Kept
+from whyblank.lotpapers import LotsApart, LotsTold
 from whyblank.makers import Maker, choices, values_of
+from whyblank.rowpapers import RowsApart, RowsTold
 from whyblank.sheets import Sheets
+from whyblank.study import Study
 from whyblank.summing import Factor
 from whyblank.tallies import Tally
 
@@ -46,7 +51,11 @@ def any_values():
         ("is", "debts", 1), ("is", "debts", True), ("blank", "debts"), ("answer", "debts"), CalledSheets(FORM, (), ()),
         CalledSheets(None, None, None), Bounds(None, None, None, None), Bounds((0, 1), (1, 1), FORM, FORM), Kept(FORM),
         (Kept(FORM), Kept(FORM)), (("debts",), ()), (("debts",), ("earns",)), ((), ("debts",)), ((0, 0), (0, 1)), ((), ()),
-        deep(("not", ("all",))), nested(30),
+        deep(("not", ("all",))), nested(30), Study(FORM), Desk(FORM), (Study(FORM),), Told(None, None), Told((), Book(FORM, ())),
+        Apart(None, None, None, None), Apart("debts", (), Maker(None, None, None), None), LotsTold(None), LotsTold(((),)),
+        LotsApart(None, None, None, None), LotsApart((), (), Book(FORM, ()), Book(FORM, ())), RowsTold(None), RowsTold(((),)),
+        RowsApart(None, None, None, None, None), RowsApart((), (0, 0), (0, 1), FORM, FORM), ("undo",), ["undo"], ("redo",),
+        ("batch", ()), ("batch", []), ("take", 0), ("take", False), ("way", None, None), ("told", None, True), deep(("undo",)),
     ]
 
 

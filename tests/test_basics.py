@@ -5,17 +5,19 @@ import itertools
 import unittest
 
 from helpers import (
-    FORM, all_nodes, every_truth, is_package_object, names, random_book, random_chart, random_maker, random_sheets, same, seeded, subsets,
+    FORM, all_nodes, every_sheet, every_truth, is_package_object, names, random_book, random_chart, random_maker, random_sheets, same, seeded, subsets,
 )
 from test_charts import A, B, C, D
 from whyblank import (
-    asks, asktext, books, bounds, called, charts, charttext, choices, closedlots, counting, cuts, forms, fractions, kept, leans, lotrules, makers,
-    onebook, rowrules, sheets, summing, tallies, ways, weighing, weights,
+    asks, asktext, audit, books, bounds, called, calls, charts, charttext, choices, closedlots, commands, counting, cuts, desk, facts, forms,
+    fractions, judging, kept, leans, lotpapers, lotrules, makers, meetings, onebook, rowpapers, rowrules, sheets, slips, study, summing, tallies,
+    texts, towns, ways, weighing, weights,
 )
 from whyblank.asks import Ask
 from whyblank.books import Book
 from whyblank.called import CalledSheets
 from whyblank.charts import Chart
+from whyblank.errors import InvalidBook, InvalidChart, InvalidForm, InvalidFraction, InvalidMaker, InvalidSheets, InvalidSize, NoName, Refused
 from whyblank.forms import Form
 from whyblank.kinds import is_int, is_name, is_number
 from whyblank.makers import Maker
@@ -43,6 +45,10 @@ COUNTS = (((-1, 0), 2), ((0, 0), 3), ((1, 0), 1))
 PICKS = choices.picks(TABLE, ASK, 1, 1)
 OWN = (("arrow", A, C),)
 LEANING = Chart(FORM, ((A, C), (B, D)), ())
+TOWNS = towns.two_towns(LEANING, "debts")
+JUDGED = judging.judged(LEANING, TABLE)
+SLIP = ("judged", (LEANING, TABLE), JUDGED)
+LINES = ["sheet 0 0 .", "draw debts ?debts", "told", "book", "tally"]
 
 CALLS = [
     (fractions.need_fraction, {"value": (1, 2)}), (fractions.is_fraction, {"value": (1, 2)}), (fractions.fraction, {"top": 2, "bottom": 4}),
@@ -147,6 +153,59 @@ CALLS = [
     (leans.sign, {"value": 1}), (leans.leaned_row, {"many": 3, "strength": (1, 2)}), (leans.coins_along, {"chart": CHART, "way": WAY}),
     (leans.table_along, {"chart": LEANING, "name": "debts", "way": OWN, "lean": -1, "node": C}),
     (leans.tables_along, {"chart": LEANING, "name": "debts", "way": OWN, "lean": -1}),
+    (towns.town, {"chart": LEANING, "name": "debts", "way": OWN, "lean": -1}), (towns.towns_by, {"chart": LEANING, "name": "debts", "way": OWN}),
+    (towns.two_towns, {"chart": LEANING, "name": "earns"}),
+    (towns.town_share, {"form": FORM, "name": "debts", "way": OWN, "lean": 1, "lot": ("debts",), "truth": (0, 1)}),
+    (towns.have_other_truths, {"way": WAY}), (towns.parted_at, {"one": BOOK, "other": ONE_BOOK}),
+    (towns.check_towns, {"chart": LEANING, "value": TOWNS}),
+    (calls.needed_calls, {"chart": LEANING}), (calls.calls_tell, {"chart": LEANING, "called": ("debts",)}),
+    (calls.towns_beside, {"chart": LEANING, "called": ("debts",)}), (calls.call_paper, {"chart": LEANING}),
+    (calls.check_calls, {"chart": LEANING, "called": ("debts", "earns"), "value": calls.call_paper(LEANING)}),
+    (judging.judged, {"chart": LEANING, "sheets": TABLE}), (judging.check_judged, {"chart": LEANING, "sheets": TABLE, "value": JUDGED}),
+    (commands.call_line, {"call": ("batch", (("draw", A, C), ("sheet", 0, (0, -1))))}), (commands.read_call, {"value": "all draw a ?a; sheet 0 . 1"}),
+    (facts.facts_of, {"slip": SLIP}), (facts.all_facts, {"facts": list(facts.facts_of(SLIP))}),
+    (facts.told_by, {"facts": list(facts.facts_of(SLIP)), "word": "told", "question": LEANING}),
+    (lotpapers.lots_paper, {"form": FORM, "lots": NEVER}), (lotpapers.check_lots, {"form": FORM, "lots": NEVER, "value": lotpapers.lots_paper(FORM, NEVER)}),
+    (meetings.after_meetings, {"tallies": [TALLY, OTHER, TALLY], "meets": [(0, 1), (2, 1)]}), (meetings.heard_from, {"many": 3, "meets": [(0, 1), (2, 1)]}),
+    (rowpapers.rows_paper, {"form": FORM, "rows": ALIKE, "lots": EVERY}),
+    (rowpapers.check_rows, {"form": FORM, "rows": ALIKE, "lots": EVERY, "value": rowpapers.rows_paper(FORM, ALIKE, EVERY)}),
+    (slips.slip_holds, {"value": SLIP}), (texts.form_text, {"form": FORM}), (texts.book_text, {"book": BOOK}), (texts.sheets_text, {"sheets": TABLE}),
+    (texts.read_form, {"value": "debts 2 earns 2"}), (texts.read_book, {"value": texts.book_text(BOOK)}),
+    (texts.read_sheets, {"value": texts.sheets_text(TABLE)}), (desk.run_lines, {"form": FORM, "lines": LINES}),
+    (audit.audit, {"form": FORM, "record": (("told", ("told", True), ()),)}),
+]
+OUTSIDE = Ask(("answer", "debts"), ("both", ("is", "debts", 0), ("is", "debts", 1)))
+ROWS = sheets.gathered_sheets(FORM, (((0, 0), (1, 2)), ((-1, 1), (1, 2))))
+GAPPED = sheets.gathered_sheets(FORM, (((0, 0), (1, 2)), ((-1, -1), (1, 2))))
+DESK = kept.Kept(FORM)
+# Calls that are wrong in several ways, of which the first one is told.
+WRONG = [
+    (InvalidFraction, 1, fractions.need_fraction, ((2, 0),)), (InvalidForm, 0, forms.need_form, (Form((("Debts", 2), ("debts", 1))),)),
+    (InvalidBook, 0, books.need_book, (Book(FORM, (((), (0, 0), (2, 1)), ((), (0, 0), (2, 4)))[::-1]),)),
+    (InvalidSheets, 1, sheets.need_sheets, (Sheets(FORM, (((0, 0), (1, 3)), ((-1, 0), (1, 3)), None)),)),
+    (InvalidSize, "form", books.mixed_book, (BOOK, Book(Form((("a", 2),)), ()), (3, 1))),
+    (NoName, "pets", sheets.struck_book, (sheets.struck_book(BOOK, "debts"), "pets")),
+    (Refused, "last", sheets.struck_book, (sheets.struck_book(BOOK, "debts"), "earns")),
+    (InvalidChart, (0, 1), charts.need_chart, (Chart(FORM, ((A, B), (A, A), (C, A)), (None,)),)),
+    (InvalidChart, (1, 0), charts.need_chart, (Chart(FORM, ((A, B),), ((B, A), None)),)),
+    (Refused, "back", charts.with_arrow, (Chart(FORM, ((A, C),), ()), C, A)), (Refused, "there", charts.with_arrow, (CHART, A, B)),
+    (InvalidMaker, (0, 0), makers.need_maker, (Maker(CHART, (), ()),)), (InvalidMaker, (1, 0), makers.need_maker, (Maker(CHART, MAKER.coins, ()),)),
+    (InvalidSize, "form", meetings.after_meetings, ((TALLY, Tally(Form((("a", 2),)), ())), (None,))),
+    (Refused, "lots", onebook.grown_book, (FORM, (((0, 0), (1, 1)),), (((-1, -1), (1, 1)), ((-1, 1), (1, 1))))),
+    (InvalidSize, "gap", lotrules.lot_book, (FORM, NEVER, None, None)), (InvalidSize, "side", lotrules.lot_book, (FORM, NEVER, GAP, None)),
+    (Refused, "lot", lotrules.two_lot_books, (FORM, EVERY, None)), (Refused, "told", lotrules.two_lot_books, (FORM, EVERY, ("debts",))),
+    (Refused, "lots", lotrules.lot_part, (ROWS, ("debts", "earns"))), (Refused, "rows", lotrules.lot_part, (ROWS, ("debts",))),
+    (Refused, "lots", rowrules.row_book, (FORM, ALIKE, NEVER, None, None)), (Refused, "lot", rowrules.row_book, (FORM, ALIKE, EVERY, None, None)),
+    (Refused, "told", rowrules.row_book, (FORM, ALIKE, EVERY, ("debts",), None)),
+    (InvalidSize, "side", rowrules.row_book, (FORM, ALIKE, EVERY, ("debts", "earns"), None)),
+    (Refused, "blank", weighing.weighed, (GAPPED, Ask(("number", 1), ("both", ("blank", "debts"), ("not", ("all",)))))),
+    (Refused, "lots", weighing.weighed, (GAPPED, OUTSIDE)), (Refused, "rows", weighing.weighed, (ROWS, OUTSIDE)),
+    (Refused, "nobody", weighing.weighed, (TABLE, OUTSIDE)), (Refused, "nobody", bounds.book_at, (TABLE, OUTSIDE, (9, 1))),
+    (Refused, "worth", bounds.share_bounds, (TABLE, Ask(("number", 2), ("all",)))), (Refused, "nobody", bounds.share_bounds, (TABLE, OUTSIDE)),
+    (InvalidSheets, 0, DESK.move, (None, None, None)), (InvalidSheets, 1, DESK.move, ((0, 0), None, None)),
+    (InvalidSize, "many", DESK.move, ((0, 0), (0, 0), None)), (Refused, "few", DESK.move, ((0, 0), (0, 0), 1)),
+    (NoName, "pets", towns.two_towns, (Chart(FORM, (), ()), "pets")), (Refused, "closed", towns.two_towns, (Chart(FORM, (), ()), "debts")),
+    (Refused, "none", study.Study(FORM).judged_now, ()),
 ]
 
 
@@ -212,6 +271,32 @@ class Everywhere(unittest.TestCase):
         wanted = {split(one)[0] for told in FUNCTIONS.values() for one in told.split()}
         self.assertEqual({call.__name__ for call, _ in CALLS}, wanted)
 
+    def test_errors_in_their_order(self):
+        for error, told, call, values in WRONG:
+            with self.subTest(call=call.__name__, told=told):
+                with self.assertRaises(error) as held:
+                    call(*values)
+                self.assertTrue(same(list(vars(held.exception).values()), [told]))
+
+    def test_objects_that_change_by_position_and_by_names(self):
+        """What they return are tuples, also within, and later steps do not change it."""
+        one, other = study.Study(form=FORM), study.Study(FORM)
+        self.assertEqual([one.do(call=("draw", A, C)), other.do(("draw", A, C))], ["done", "done"])
+        for sheet in every_sheet(FORM):
+            one.do(("sheet", len(one.tally_now()), sheet))
+            other.do(call=("sheet", len(other.tally_now()), sheet))
+        told = ("chart_now", "tally_now", "sheets_now", "verdict_now", "needed_now", "judged_now", "calls", "depth")
+        first = [getattr(one, name)() for name in told]
+        self.assertTrue(same(first, [getattr(other, name)() for name in told]))
+        self.assertFalse(any(map(holds_a_list, first)))
+        one.do(("undo",))
+        self.assertTrue(same(first, [getattr(other, name)() for name in told]))
+        first, second = desk.Desk(form=FORM), desk.Desk(FORM)
+        outcomes = [first.say(line=line) for line in LINES]
+        self.assertTrue(same(outcomes, [second.say(line) for line in LINES]))
+        self.assertTrue(same((first.said(), first.record()), (second.said(), second.record())))
+        self.assertFalse(holds_a_list((tuple(outcomes), first.said(), first.record())))
+
     def test_equal_arguments_of_another_making(self):
         """Forms, charts and the like that are equal, but not the same objects, lead to equal results."""
         for call, arguments in CALLS:
@@ -240,14 +325,18 @@ class Kinds(unittest.TestCase):
             self.assertIs(is_name("a" + letter), letter in "abcdefghijklmnopqrstuvwxyz")
 
     def test_no_length_and_nothing_to_iterate(self):
-        for one in (FORM, BOOK, TABLE, CHART, MAKER, FACTOR, TALLY, ASK, CALLED, bounds.bounds(TABLE, ASK), kept.Kept(FORM)):
+        papers = [JUDGED, judging.Told((), ()), lotpapers.LotsTold(()), lotpapers.LotsApart(1, 2, 3, 4), rowpapers.RowsTold(())]
+        papers += [rowpapers.RowsApart(1, 2, 3, 4, 5), study.Study(FORM), desk.Desk(FORM), kept.Kept(FORM), bounds.bounds(TABLE, ASK)]
+        for one in [FORM, BOOK, TABLE, CHART, MAKER, FACTOR, TALLY, ASK, CALLED] + papers:
             for call in (len, iter, list):
                 with self.assertRaises(TypeError):
                     call(one)
 
     def test_equal_to_nothing_of_another_class(self):
         things = [Form(None), Book(None, None), Sheets(None, None), Chart(None, None, None), Maker(None, None, None), FACTOR, TALLY]
-        things += [Ask(None, None), CalledSheets(None, None, None), bounds.Bounds(None, None, None, None)]
+        things += [Ask(None, None), CalledSheets(None, None, None), bounds.Bounds(None, None, None, None), judging.Told(None, None)]
+        things += [judging.Apart(None, None, None, None), lotpapers.LotsTold(None), lotpapers.LotsApart(None, None, None, None)]
+        things += [rowpapers.RowsTold(None), rowpapers.RowsApart(None, None, None, None, None)]
         for one, other in itertools.permutations(things, 2):
             self.assertFalse(one == other)
             self.assertTrue(one != other)

@@ -94,6 +94,27 @@ FUNCTIONS = {
         sign(value) leaned_row(many,strength) coins_along(chart,way) table_along(chart,name,way,lean,node)
         tables_along(chart,name,way,lean)
     """,
+    "towns": """
+        town(chart,name,way,lean) towns_by(chart,name,way) two_towns(chart,name) town_share(form,name,way,lean,lot,truth)
+        have_other_truths(way) parted_at(one,other) check_towns(chart,value)
+    """,
+    "calls": """
+        needed_calls(chart) calls_tell(chart,called) towns_beside(chart,called) call_paper(chart)
+        check_calls(chart,called,value)
+    """,
+    "judging": "judged(chart,sheets) check_judged(chart,sheets,value)",
+    "study": "",
+    "commands": "call_line(call) read_call(value)",
+    "facts": "facts_of(slip) all_facts(facts) told_by(facts,word,question)",
+    "lotpapers": "lots_paper(form,lots) check_lots(form,lots,value)",
+    "meetings": "after_meetings(tallies,meets) heard_from(many,meets)",
+    "rowpapers": "rows_paper(form,rows,lots) check_rows(form,rows,lots,value)",
+    "slips": "slip_holds(value)",
+    "texts": """
+        form_text(form) book_text(book) sheets_text(sheets) read_form(value) read_book(value) read_sheets(value)
+    """,
+    "desk": "run_lines(form,lines)",
+    "audit": "audit(form,record)",
 }
 CLASSES = {
     "forms": "Form(questions)",
@@ -106,11 +127,21 @@ CLASSES = {
     "asks": "Ask(worth,given)",
     "called": "CalledSheets(form,called,shares)",
     "bounds": "Bounds(least,most,low,high)",
+    "judging": "Told(closed,book) Apart(name,way,one,other)",
+    "lotpapers": "LotsTold(lots) LotsApart(lot,lesser,one,other)",
+    "rowpapers": "RowsTold(lots) RowsApart(lot,one,other,first,second)",
 }
-KEPT = """
-    put(sheet,many) take(sheet,many) move(sheet,other,many) counts() whole() weights() weight_now(sheet) last() done() table()
-    book_now() answer_now(ask) undo() redo() depth() twin()
-"""
+# Objects that change, made of a form, with their methods.
+MUTABLE = {
+    "kept": ("Kept", """
+        put(sheet,many) take(sheet,many) move(sheet,other,many) counts() whole() weights() weight_now(sheet) last() done()
+        table() book_now() answer_now(ask) undo() redo() depth() twin()
+    """),
+    "study": ("Study", """
+        do(call) chart_now() tally_now() sheets_now() verdict_now() needed_now() judged_now() calls() depth() twin()
+    """),
+    "desk": ("Desk", "say(line) said() record()"),
+}
 ERRORS = """
     InvalidFraction(at) InvalidForm(at) InvalidBook(at) InvalidSheets(at) InvalidChart(at) InvalidMaker(at) InvalidWay(at)
     InvalidAsk(at) InvalidText(at) InvalidSize(word) InvalidCommand() Refused(word) NoName(name)
@@ -142,26 +173,37 @@ class Interface(unittest.TestCase):
                 self.parameters(call, wanted)
 
     def test_classes(self):
-        for file, told in CLASSES.items():
-            name, wanted = split(told)
-            made = getattr(importlib.import_module("whyblank." + file), name)
-            self.assertTrue(inspect.isclass(made))
-            self.assertEqual((made.__module__, made.__name__, made.__bases__), ("whyblank." + file, name, (object,)))
-            self.parameters(made, wanted)
-            self.assertIn("__eq__", vars(made))
-            self.assertIn("__init__", vars(made))
-            self.assertEqual(sorted(vars(made(*wanted))), sorted(wanted))
+        for file, some in CLASSES.items():
+            for told in some.split():
+                name, wanted = split(told)
+                made = getattr(importlib.import_module("whyblank." + file), name)
+                self.assertTrue(inspect.isclass(made))
+                self.assertEqual((made.__module__, made.__name__, made.__bases__), ("whyblank." + file, name, (object,)))
+                self.parameters(made, wanted)
+                self.assertIn("__eq__", vars(made))
+                self.assertIn("__init__", vars(made))
+                self.assertEqual(sorted(vars(made(*wanted))), sorted(wanted))
 
-    def test_kept(self):
-        made = importlib.import_module("whyblank.kept").Kept
-        self.assertEqual((made.__module__, made.__name__, made.__bases__), ("whyblank.kept", "Kept", (object,)))
-        self.parameters(made, ["form"])
-        for told in KEPT.split():
-            name, wanted = split(told)
-            self.assertTrue(inspect.isfunction(vars(made)[name]), name)
-            self.parameters(vars(made)[name], ["self"] + wanted)
-        self.assertIn("form", vars(made("form")))
-        self.assertNotIn("__eq__", vars(made))
+    def test_objects_that_change(self):
+        form = importlib.import_module("whyblank.forms").Form((("a", 2),))
+        for file, (called, methods) in MUTABLE.items():
+            made = getattr(importlib.import_module("whyblank." + file), called)
+            self.assertEqual((made.__module__, made.__name__, made.__bases__), ("whyblank." + file, called, (object,)))
+            self.parameters(made, ["form"])
+            for told in methods.split():
+                name, wanted = split(told)
+                self.assertTrue(inspect.isfunction(vars(made)[name]), name)
+                self.parameters(vars(made)[name], ["self"] + wanted)
+            plain = [name for name in vars(made(form)) if not name.startswith("_")]
+            self.assertEqual(plain, ["form"] if called == "Kept" else [])
+            self.assertNotIn("__eq__", vars(made))
+
+    def test_every_file_of_the_interface(self):
+        """All modules that the document lists are told here."""
+        files = set(FUNCTIONS) | set(CLASSES) | set(MUTABLE) | {"errors"}
+        self.assertEqual(len(files), 39)
+        for file in files:
+            importlib.import_module("whyblank." + file)
 
     def test_errors(self):
         module = importlib.import_module("whyblank.errors")
