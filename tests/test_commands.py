@@ -19,6 +19,7 @@ LINES = [
     (("undo",), "undo"), (("redo",), "redo"), (("batch", ()), "all"), (("batch", (("take", 0),)), "all take 0"),
     (("batch", (("sheet", 0, ()), ("sheet", 1, (-1, 2)), ("strike", "a"))), "all sheet 0; sheet 1 . 2; strike a"),
     (("ask", "undo", 2), "ask undo 2"), (("ask", "all", 9), "ask all 9"), (("strike", "batch"), "strike batch"),
+    (("strike", "undo"), "strike undo"), (("strike", "redo"), "strike redo"),
     (("wipe", ("arrow", A, A)), "wipe arrow debts debts"), (("batch", (("bow", A, ("b", "z")),) * 2), "all bow debts ?z; bow debts ?z"),
 ]
 NAME, NODE, NUMBER = "([a-z]{1,8})", "(\\??[a-z]{1,8})", "(0|[1-9][0-9]{0,8})"

@@ -164,6 +164,14 @@ class Papers(Case):
         self.assertIs(self.agrees(FORM, lots, LotsApart(PAIR, DEBTS, whole, even)), True)
         self.assertIs(self.agrees(FORM, lots, LotsApart(PAIR, PAIR, whole, even)), False)
 
+    def test_books_of_another_form(self):
+        """Both have the same questions, but more answers, which nobody gives."""
+        paper = lots_paper(FORM, NEVER)
+        wide = Form((("debts", 2), ("earns", 3)))
+        one, other = Book(wide, paper.one.shares), Book(wide, paper.other.shares)
+        for pair in ((one, other), (paper.one, other), (one, paper.other)):
+            self.assertIs(self.agrees(FORM, NEVER, LotsApart(paper.lot, paper.lesser, *pair)), False)
+
     def test_unlike_parts_with_another_lot(self):
         """The two books have to be unlike with the lot that is told."""
         lots = (DEBTS, EARNS)

@@ -175,6 +175,13 @@ class Papers(Case):
             book = book_with(FORM, parts)
             self.agrees(FORM, ALIKE, BOTH, RowsApart(paper.lot, paper.one, paper.other, paper.first, book))
 
+    def test_books_with_other_rows(self):
+        """As many rows, which would be left alike as well, but not these."""
+        paper, other = rows_paper(FORM, ALIKE, BOTH), rows_paper(FORM, ((0, 1), (1, 0)), BOTH)
+        for pair in ((other.first, other.second), (paper.first, other.second), (other.first, paper.second)):
+            self.assertIs(self.agrees(FORM, ALIKE, BOTH, RowsApart(PAIR, (0, 0), (1, 1), *pair)), False)
+        self.assertIs(self.agrees(FORM, ((0, 1), (1, 0)), BOTH, other), True)
+
     def test_a_lot_that_has_all_names_of_the_one_with_the_split(self):
         """Its part is unlike in the two books, too, so with its own split it will do as well."""
         rows = ((0, 0, 0), (1, 1, 0))

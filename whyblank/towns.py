@@ -52,17 +52,10 @@ def signs_along(form, name, way, lot, truth):
     return product_all(signs + [HALF for _ in range(max(halves, 1))])
 
 
-def inner_stops(way):
-    """The nodes at which a way comes by one stretch and goes on by another."""
-    stops = []
-    for come, onward in zip(way, way[1:]):
-        stops.append(come[1] if come[1] in onward[1:] else come[2])
-    return tuple(stops)
-
-
 def have_other_truths(way):
     """Whether some truth has unlike shares in the two towns by an own way: no inner stop is a blank."""
-    return all([node[0] == "a" for node in inner_stops(way)])
+    # All stretches but the last one join the first node, which is an answer, and inner stops.
+    return all([node[0] == "a" for stretch in way[:-1] for node in stretch[1:]])
 
 
 def shares_by_place(book):
